@@ -1,0 +1,1 @@
+"""Stillowed: what is still owed while courses of deeds call one another."""
