@@ -257,3 +257,38 @@ def rows_by(expression, known, size, sizes):
     rows = {row for row in rows if len(row) <= size}
     sizes.append(len(rows))
     return set(rows)
+
+
+def forward_book(rng, courses=3, stages=4, deeds=4, call_odds=0.4, back_odds=0.15, end_odds=0.1):
+    """A book whose steps mostly lead on to later stages of their courses, so that most stages are useful and met."""
+    names = ["main", "x", "kit", "a", "pay"][:rng.randint(1, courses)]
+    words = "abcdefghijkl"[:deeds]
+    made = []
+    for name in names:
+        many = rng.randint(2, stages)
+        found = []
+        for number in range(many):
+            for _ in range(rng.randint(1, 2) if number < many - 1 else rng.random() < back_odds):
+                back = rng.random() < back_odds or number == many - 1
+                onto = rng.randrange(many) if back else rng.randint(number + 1, many - 1)
+                if rng.random() < call_odds:
+                    step = (number, "call", rng.choice(names), onto)
+                else:
+                    step = (number, "do", rng.choice(words), onto)
+                if step not in found:
+                    found.append(step)
+        ends = tuple(n for n in range(many) if n == many - 1 or rng.random() < end_odds)
+        rng.shuffle(found)
+        made.append((name, many, ends, tuple(found)))
+    return Book(tuple(made))
+
+
+def forward_books(seed, many, **told):
+    rng = random.Random(seed)
+    return [forward_book(rng, **told) for _ in range(many)]
+
+
+def mixed_books(seed, many, **told):
+    """As many books, of both kinds by turns."""
+    pairs = zip(random_books(seed, many // 2, **told), forward_books(seed, many // 2, **told))
+    return [book for pair in pairs for book in pair]

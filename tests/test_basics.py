@@ -4,18 +4,40 @@ import copy
 import unittest
 
 import brute
-from samples import NEST, ORDER
+from samples import NEST, ORDER, TORN
 from stillowed.books import Book
+from stillowed.bounds import length_bound, tallest
+from stillowed.counts import check_counts, conflict, deed_counts, floors, goes_together, least_counts
+from stillowed.dealings import (blocks_of, check_dealing, common_finer, dealing_of, deeds_at, desk_of, desks_of,
+                                is_finer, one_desk, own_desks, part, parts, same_by, view_at, within_by)
+from stillowed.debts import Heights, Ring, check_heights, check_ring, debt, greatest_debt, sites, soonest
 from stillowed.endings import endings, has_ending, nth_ending
 from stillowed.expressions import normal, rows_of
+from stillowed.ledger import Ledger, booked, regret
 from stillowed.lengths import check_lengths, chosen_rows, lengths, plain, rows_along, ways
+from stillowed.lists import count_of, least_rows, lists, lists_by, lists_of, lists_to_depth, row_by, row_products
 from stillowed.met import check_met, met, run_to
 from stillowed.moments import (all_moments, check_moment, deeds_of, moved, moves, run_moments, start, way_to)
+from stillowed.owed import OwedTable, TwoEndings, court, joined_row, looks
+from stillowed.piles import (Piles, check_piles, is_possible, later_deeds, links, may_be_over, piles_of, run_like, tops)
+from stillowed.rows import (check_row, common, common_all, cover, first_fit, fits, greatest_rows, in_order, last_fit,
+                            within)
+from stillowed.tallies import nth_run, place_of_run, run_count
+from stillowed.trails import trail_to
 from stillowed.useful import check_ranks, check_useless, ranks, useless
 
 VIEW = {"take": ("t", "k"), "card": (), "stamp": ("s",), "send": ("z",), "more": ("q",)}
 RUN = (("do", 0), ("call", 1), ("do", 1))
 COURSES = (("main", ("seq", (("deed", "a"), ("maybe", ("call", "main"))))),)
+
+PLAIN = plain(ORDER)
+TABLE = court(ORDER, PLAIN)
+NEST_TABLE = court(NEST, plain(NEST))
+PAIR = (("pay", 0), ("order", 2))
+DEALING = (("card", "desk"), ("send", "mail"), ("stamp", "desk"), ("take", "desk"))
+LISTS = lists(ORDER, VIEW)
+PILES = piles_of(ORDER, ("card",), ("card",))
+ROWS = [("b",), ("a", "b"), ("b",)]
 
 # Each function with arguments by the names of the document.
 CALLS = [
@@ -34,6 +56,44 @@ CALLS = [
     (moves, {"book": ORDER, "moment": (("pay", 0), ("order", 2))}),
     (moved, {"book": ORDER, "moment": (("pay", 0), ("order", 2)), "move": ("do", 1)}),
     (run_moments, {"book": ORDER, "run": RUN}), (deeds_of, {"book": ORDER, "run": RUN}),
+    (check_row, {"row": ("a",)}), (in_order, {"rows": ROWS}), (greatest_rows, {"rows": ROWS}),
+    (within, {"u": ("a",), "v": ("b", "a")}), (fits, {"u": ("a",), "v": ("b", "a")}),
+    (first_fit, {"u": ("a",), "v": ("b", "a")}), (last_fit, {"u": ("a",), "v": ("b", "a")}),
+    (common, {"u": ("a",), "v": ("b", "a")}), (common_all, {"rows": ROWS}), (cover, {"u": ("a",), "v": ("b", "a")}),
+    (length_bound, {"book": ORDER}), (tallest, {"counts": (3, 4)}),
+    (run_count, {"book": ORDER, "stage": ("pay", 0), "moves": 3}), (nth_run, {"book": ORDER, "stage": ("pay", 0), "n": 1}),
+    (place_of_run, {"book": ORDER, "stage": ("pay", 0), "run": (("do", 1), ("do", 2), ("leave",))}),
+    (deed_counts, {"book": ORDER, "row": ("card",)}), (floors, {"book": ORDER}),
+    (goes_together, {"book": ORDER, "stage": ("pay", 0), "lot": ("card",)}), (conflict, {"book": ORDER, "stage": ("pay", 0)}),
+    (least_counts, {"book": ORDER}), (check_counts, {"book": ORDER, "table": least_counts(ORDER)}),
+    (check_dealing, {"book": ORDER, "dealing": DEALING}), (one_desk, {"book": ORDER}), (own_desks, {"book": ORDER}),
+    (desks_of, {"dealing": DEALING}), (deeds_at, {"dealing": DEALING, "desk": "desk"}),
+    (desk_of, {"dealing": DEALING, "deed": "send"}), (part, {"dealing": DEALING, "desk": "mail", "row": ("send", "card")}),
+    (parts, {"dealing": DEALING, "row": ("send", "card")}), (within_by, {"dealing": DEALING, "u": ("card",), "v": ("send",)}),
+    (same_by, {"dealing": DEALING, "u": ("card",), "v": ("send",)}), (view_at, {"dealing": DEALING, "desk": "mail"}),
+    (blocks_of, {"dealing": DEALING}), (dealing_of, {"blocks": (("b",), ("a", "c"))}),
+    (is_finer, {"one": DEALING, "other": DEALING}), (common_finer, {"one": DEALING, "other": own_desks(ORDER)}),
+    (joined_row, {"book": ORDER, "view": PLAIN, "rows": TABLE.rows, "stage": ("order", 1), "k": 1}),
+    (looks, {"book": ORDER, "view": PLAIN, "rows": TABLE.rows}), (court, {"book": ORDER, "view": VIEW}),
+    (court, {"book": TORN, "view": plain(TORN)}), (trail_to, {"book": ORDER, "stage": ("pay", 3)}),
+    (OwedTable, {"book": ORDER, "view": VIEW, "rows": {}, "chosen": {("a", 0): ("end",)}, "ranks": {}}),
+    (TwoEndings, {"stage": ("a", 0), "trail": ((),), "least": {}, "chosen": {}, "one": ("a",), "other": ()}),
+    (sites, {"table": TABLE}), (debt, {"table": TABLE, "moment": PAIR}), (greatest_debt, {"table": TABLE}),
+    (greatest_debt, {"table": NEST_TABLE}), (Ring, {"table": NEST_TABLE, "lap": (("main", 2),), "base": ()}),
+    (Heights, {"table": TABLE, "heights": {"order": 3, "pay": 1}, "peak": (("order", 0),)}),
+    (check_heights, {"table": TABLE, "heights": {"order": 3, "pay": 1}, "peak": (("order", 0),)}),
+    (check_ring, {"table": NEST_TABLE, "lap": (("main", 2),), "base": ()}), (soonest, {"table": NEST_TABLE, "wanted": 4}),
+    (regret, {"table": TABLE, "moment": PAIR, "move": ("do", 1)}), (Ledger, {"table": TABLE}),
+    (booked, {"table": TABLE, "run": RUN}), (row_by, {"view": VIEW, "row": ("take", "send")}), (least_rows, {"rows": ROWS}),
+    (row_products, {"lots": [ROWS, ROWS]}), (lists, {"book": ORDER, "view": VIEW}),
+    (lists_to_depth, {"book": ORDER, "view": VIEW, "depth": 1}),
+    (lists_by, {"table": LISTS, "view": {"t": (), "k": ("k",), "s": (), "z": ("a",)}}),
+    (lists_of, {"table": LISTS, "moment": PAIR}), (count_of, {"table": LISTS, "moment": PAIR}),
+    (Piles, {"book": ORDER, "seen": (), "shown": (), "walks": {}, "frames": {("order", 0): 0}}),
+    (piles_of, {"book": ORDER, "seen": ("card",), "shown": ("card",)}), (check_piles, {"piles": PILES}),
+    (links, {"piles": PILES}), (tops, {"piles": PILES}), (is_possible, {"piles": PILES, "moment": PAIR}),
+    (run_like, {"piles": PILES, "moment": (("pay", 2), ("order", 2))}), (may_be_over, {"piles": PILES}),
+    (later_deeds, {"piles": PILES}),
 ]
 
 
@@ -46,6 +106,13 @@ def written(value):
     if isinstance(value, (int, str, type(None))):
         return (type(value).__name__, value)
     return (type(value).__name__, [(name, written(part)) for name, part in sorted(vars(value).items())])
+
+
+def unordered(value):
+    """A value with everything in it that may be compared, the order of keys left out."""
+    if isinstance(value, (dict, tuple, list, int, str, type(None))):
+        return value
+    return {name: unordered(part) for name, part in vars(value).items()}
 
 
 class EveryFunctionTest(unittest.TestCase):
@@ -67,7 +134,7 @@ class EveryFunctionTest(unittest.TestCase):
             self.assertEqual(written(function(**again)), written(answer), function.__name__)
             turned = {name: dict(reversed(list(value.items()))) if isinstance(value, dict) else value
                       for name, value in told.items()}
-            self.assertEqual(function(**turned), answer, function.__name__)
+            self.assertEqual(unordered(function(**turned)), unordered(answer), function.__name__)
 
     def test_a_changed_answer_changes_no_later_one(self):
         for function, told in CALLS:
@@ -88,12 +155,38 @@ class EveryFunctionTest(unittest.TestCase):
         view.clear()
         self.assertEqual(written(answer), before)
 
+    def test_limits_of_lists_by_name(self):
+        self.assertEqual(lists(ORDER, view=VIEW, longest=40, most=60), LISTS)
+        self.assertEqual(lists_to_depth(book=ORDER, view=VIEW, depth=2, longest=4, most=1), LISTS)
+        self.assertEqual(one_desk(book=ORDER, desk="q")[0], ("card", "q"))
+
+    def test_changed_attributes_of_answers_change_no_later_ones(self):
+        for function, told in ((court, {"book": ORDER, "view": VIEW}), (piles_of, {"book": ORDER, "seen": ("card",)}),
+                               (greatest_debt, {"table": TABLE})):
+            answer = function(**told)
+            before = written(function(**told))
+            for value in vars(answer).values():
+                if isinstance(value, dict):
+                    value.clear()
+            self.assertEqual(written(function(**told)), before)
+
+    def test_objects_keep_copies(self):
+        for kind, told in CALLS:
+            if kind in (OwedTable, TwoEndings, Heights, Piles):
+                passed = {name: dict(value) if isinstance(value, dict) else value for name, value in told.items()}
+                made = kind(**passed)
+                before = written(made)
+                for value in passed.values():
+                    if isinstance(value, dict):
+                        value.clear()
+                self.assertEqual(written(made), before, kind.__name__)
+
     def test_rows_for_other_names_are_ignored(self):
-        for function in (lengths, ways, chosen_rows):
+        for function in (lengths, ways, chosen_rows, lists):
             self.assertEqual(function(NEST, {**plain(NEST), "zzzzz": ("q",) * 9}), function(NEST, plain(NEST)))
 
     def test_books_stay_as_they_were(self):
-        for book in brute.random_books(71, 30):
+        for book in brute.mixed_books(71, 30):
             before = copy.deepcopy(vars(book))
             for function in (ranks, useless, met, plain):
                 function(book)

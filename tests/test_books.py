@@ -146,7 +146,7 @@ class BookTest(unittest.TestCase):
         self.assertEqual(book.steps_from(("z", 0)), (1, 2))
 
     def test_random_books(self):
-        for book in brute.random_books(1, 200):
+        for book in brute.mixed_books(1, 200):
             self.assertEqual(list(book.stages()), brute.all_stages(book))
             for stage in book.stages():
                 self.assertEqual(list(book.steps_from(stage)), brute.leaving(book, stage))

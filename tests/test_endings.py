@@ -39,7 +39,7 @@ class EndingsTest(unittest.TestCase):
         self.assertEqual(endings(book, ("main", 0), 2), (("a",), ("a", "b")))
 
     def test_random_books(self):
-        for book in brute.random_books(41, 250):
+        for book in brute.mixed_books(41, 250):
             found = brute.endings(book, 5)
             for stage in book.stages():
                 for size in range(6):
@@ -122,7 +122,7 @@ class NthEndingTest(unittest.TestCase):
             self.assertEqual(caught.exception.word, "n")
 
     def test_both_agree(self):
-        for book in brute.random_books(42, 100, deeds=2):
+        for book in brute.mixed_books(42, 100, deeds=2):
             for stage in book.stages():
                 try:
                     listed = endings(book, stage, 8)
@@ -135,7 +135,7 @@ class NthEndingTest(unittest.TestCase):
 class HasEndingTest(unittest.TestCase):
     def test_random_books(self):
         rng = random.Random(43)
-        for book in brute.random_books(43, 200):
+        for book in brute.mixed_books(43, 200):
             found = brute.endings(book, 5)
             for stage in book.stages():
                 for row in found[stage]:

@@ -11,6 +11,26 @@ FUNCTIONS = {
     "lengths": "plain(book) lengths(book,view) ways(book,view) rows_along(book,view,chosen) chosen_rows(book,view) "
                "check_lengths(book,view,table,chosen)",
     "met": "met(book) run_to(book,stage) check_met(book,table)",
+    "piles": "piles_of(book,seen,shown=()) check_piles(piles) links(piles) tops(piles) is_possible(piles,moment) "
+             "run_like(piles,moment) may_be_over(piles) later_deeds(piles)",
+    "rows": "check_row(row) in_order(rows) greatest_rows(rows) within(u,v) fits(u,v) first_fit(u,v) last_fit(u,v) "
+            "common(u,v) common_all(rows) cover(u,v)",
+    "tallies": "run_count(book,stage,moves) nth_run(book,stage,n) place_of_run(book,stage,run)",
+    "bounds": "length_bound(book) tallest(counts)",
+    "counts": "deed_counts(book,row) floors(book) goes_together(book,stage,lot) conflict(book,stage) "
+              "least_counts(book) check_counts(book,table)",
+    "dealings": "check_dealing(book,dealing) one_desk(book,*,desk='one') own_desks(book) desks_of(dealing) "
+                "deeds_at(dealing,desk) desk_of(dealing,deed) part(dealing,desk,row) parts(dealing,row) "
+                "within_by(dealing,u,v) same_by(dealing,u,v) view_at(dealing,desk) blocks_of(dealing) "
+                "dealing_of(blocks) is_finer(one,other) common_finer(one,other)",
+    "debts": "sites(table) debt(table,moment) greatest_debt(table) check_heights(table,heights,peak) "
+             "check_ring(table,lap,base) soonest(table,wanted)",
+    "ledger": "regret(table,moment,move) booked(table,run)",
+    "lists": "row_by(view,row) least_rows(rows) row_products(lots) lists(book,view,*,most=60,longest=40) "
+             "lists_to_depth(book,view,depth,*,most=60,longest=40) lists_by(table,view) lists_of(table,moment) "
+             "count_of(table,moment)",
+    "owed": "joined_row(book,view,rows,stage,k) looks(book,view,rows) court(book,view)",
+    "trails": "trail_to(book,stage)",
     "moments": "start(book) check_moment(book,moment) way_to(book,moment) all_moments(book,most) moves(book,moment) "
                "moved(book,moment,move) run_moments(book,run) deeds_of(book,run)",
 }
@@ -19,11 +39,18 @@ CLASSES = {
     "errors": "StillError() InvalidRow(at) InvalidText(at) InvalidBook(at) InvalidMoment(at) InvalidMove(at) "
               "InvalidDealing(at) InvalidNumber(word) NoEnding(stage) Refused(word)",
     "books": "Book(courses)",
+    "piles": "Piles(book,seen,shown,walks,frames)",
+    "debts": "Heights(table,heights,peak) Ring(table,lap,base)",
+    "ledger": "Ledger(table)",
+    "owed": "OwedTable(book,view,rows,chosen,ranks) TwoEndings(stage,trail,least,chosen,one,other)",
 }
 
 METHODS = {
     ("books", "Book"): "names() main() index_of(name) ends(course) steps(course) steps_from(stage) is_end(stage) "
                        "is_stage(value) stages() calls() deeds() __eq__(other)",
+    ("debts", "Ring"): "turned(times) times_for(wanted)",
+    ("ledger", "Ledger"): "do(move) moment() moves_done() owed() debts() history(number) needless() longest_wait()",
+    ("owed", "OwedTable"): "row(stage) owed(moment)",
 }
 
 

@@ -78,7 +78,7 @@ class LengthsTest(unittest.TestCase):
 
     def test_random_books_and_views(self):
         rng = random.Random(7)
-        for book in brute.random_books(31, 300):
+        for book in brute.mixed_books(31, 300):
             for view in (plain(book), brute.random_view(rng, book, 1), brute.random_view(rng, book, 3)):
                 best = costs(book, view)
                 found = lengths(book, view)
@@ -152,7 +152,7 @@ class RowsAlongTest(unittest.TestCase):
 class CheckLengthsTest(unittest.TestCase):
     def test_right_ones_pass(self):
         rng = random.Random(9)
-        for book in brute.random_books(32, 150):
+        for book in brute.mixed_books(32, 150):
             view = brute.random_view(rng, book)
             table, chosen = lengths(book, view), ways(book, view)
             self.assertIs(check_lengths(book, view, table, chosen), True)
@@ -184,7 +184,7 @@ class CheckLengthsTest(unittest.TestCase):
 
     def test_one_number_way_or_key_changed(self):
         rng = random.Random(10)
-        for book in brute.random_books(33, 200):
+        for book in brute.mixed_books(33, 200):
             view = brute.random_view(rng, book)
             table, chosen = lengths(book, view), ways(book, view)
             for stage in book.stages():

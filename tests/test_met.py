@@ -43,7 +43,7 @@ class MetTest(unittest.TestCase):
         self.assertEqual(caught.exception.word, "unmet")
 
     def test_random_books(self):
-        for book in brute.random_books(21, 400):
+        for book in brute.mixed_books(21, 400):
             found = met(book)
             self.assertEqual(list(found), sorted(found))
             good = brute.useful(book)
@@ -125,7 +125,7 @@ class MetTest(unittest.TestCase):
             self.assertEqual(caught.exception.word, word)
 
     def test_check_met(self):
-        for book in brute.random_books(22, 150):
+        for book in brute.mixed_books(22, 150):
             right = met(book)
             self.assertTrue(check_met(book, right))
             self.assertTrue(check_met(book, {s: right[s] for s in reversed(list(right))}))

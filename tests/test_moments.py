@@ -122,7 +122,7 @@ class CheckMomentTest(unittest.TestCase):
     def test_random_books(self):
         rng = random.Random(61)
         right = 0
-        for book in brute.random_books(61, 400, courses=3, stages=3):
+        for book in brute.mixed_books(61, 400, courses=3, stages=3):
             found = brute.reachable(book, 6, 1500)
             if not 0 < len(found) < 1500:
                 continue
@@ -142,7 +142,7 @@ class CheckMomentTest(unittest.TestCase):
 class WayToTest(unittest.TestCase):
     def test_shortest_runs(self):
         checked = 0
-        for book in brute.random_books(62, 300):
+        for book in brute.mixed_books(62, 300):
             if (book.main(), 0) not in brute.useful(book):
                 continue
             runs = brute.runs(book, start(book), 7, only_useful=True)
@@ -219,7 +219,7 @@ class AllMomentsTest(unittest.TestCase):
                 all_moments(NEST, most)
 
     def test_random_books(self):
-        for book in brute.random_books(63, 300):
+        for book in brute.mixed_books(63, 300):
             if (book.main(), 0) not in brute.useful(book):
                 continue
             queue = [start(book)]
@@ -274,7 +274,7 @@ class MovesTest(unittest.TestCase):
         self.assertEqual(moved(MIXED, (("x", 0), ("main", 2)), ("call", 0)), (("main", 0), ("x", 2), ("main", 2)))
 
     def test_random_books(self):
-        for book in brute.random_books(64, 200):
+        for book in brute.mixed_books(64, 200):
             good = brute.useful(book)
             for moment in list(brute.reachable(book, 3, 60)):
                 expected = brute.let(book, good, moment)
@@ -317,7 +317,7 @@ class RunsTest(unittest.TestCase):
                 self.assertEqual(at_of(self, InvalidMove, deeds_of, ORDER, value), -1)
 
     def test_random_runs(self):
-        for book in brute.random_books(65, 150):
+        for book in brute.mixed_books(65, 150):
             if (book.main(), 0) not in brute.useful(book):
                 continue
             for run, moment, deeds in (brute.runs(book, start(book), 5, only_useful=True) or [])[:200]:

@@ -48,7 +48,7 @@ class RanksTest(unittest.TestCase):
         self.assertEqual(ranks(book), {("main", 0): 2, ("main", 1): 1})
 
     def test_random_books(self):
-        for book in brute.random_books(11, 300):
+        for book in brute.mixed_books(11, 300):
             found = ranks(book)
             self.assertEqual(list(found), sorted(brute.useful(book)))
             self.assertEqual(useless(book), greatest_closed(book))
@@ -62,7 +62,7 @@ class RanksTest(unittest.TestCase):
                     self.assertGreater(found.get(stage, 99), 7)
 
     def test_ascending_keys_and_new_dicts(self):
-        for book in brute.random_books(12, 50):
+        for book in brute.mixed_books(12, 50):
             found = ranks(book)
             self.assertEqual(list(found), sorted(found))
             found.clear()
@@ -105,7 +105,7 @@ class CertificatesTest(unittest.TestCase):
         self.assertFalse(check_useless(book, (("main", 0),)))
 
     def test_all_lots_of_small_books(self):
-        for book in brute.random_books(13, 60, courses=2, stages=3):
+        for book in brute.mixed_books(13, 60, courses=2, stages=3):
             stages = brute.all_stages(book)
             for bits in range(2 ** len(stages)):
                 lot = tuple(s for at, s in enumerate(stages) if bits >> at & 1)
@@ -116,7 +116,7 @@ class CertificatesTest(unittest.TestCase):
 
     def test_only_the_ranks_pass(self):
         rng = random.Random(5)
-        for book in brute.random_books(14, 200):
+        for book in brute.mixed_books(14, 200):
             right = ranks(book)
             for stage in book.stages():
                 for change in (-right.get(stage, 0), -1, 1, 2, 5):
