@@ -4,7 +4,6 @@ from heapq import heappop, heappush
 
 from stillowed.costs import least_weights
 from stillowed.errors import NoEnding, Refused
-from stillowed.kinds import ascending
 from stillowed.steps import steps_into
 from stillowed.useful import ranks
 
@@ -67,7 +66,7 @@ def least_counts(book):
         if len(search.counts[found[0]]) > MOST_COUNTS:
             raise Refused("wide")
         found = search.taken()
-    return search.table()
+    return search.least_table()
 
 
 def check_counts(book, table):
@@ -79,14 +78,15 @@ def check_counts(book, table):
         if count not in table.get(stage, ()):
             return False
         found = search.taken()
-    return table == search.table()
+    return table == search.least_table()
 
 
 class CountSearch:
     """Finds the least counts of all stages, those with lesser sums first.
 
     A least count is made of least counts of the parts, whose sums are not greater. So what is found when its sum
-    is due is a least count, unless an earlier one of the stage is at most it.
+    is due is a least count, unless an earlier one of the stage is at most it. All are found in order: a count with
+    the sum of one of its parts equals the count of this part.
     """
 
     def __init__(self, book):
@@ -111,21 +111,29 @@ class CountSearch:
         """The next pair (stage, least count of it), None if there are no more."""
         while self.queue:
             _, count, stage = heappop(self.queue)
-            if not any([is_at_most(earlier, count) for earlier in self.counts[stage]]):
+            if not self.is_reached(stage, count):
                 self.counts[stage].append(count)
                 self.use(stage, count)
                 return (stage, count)
         return None
 
-    def table(self):
-        """What has been found, in order."""
-        # Counts of one sum may have been found in any order.
-        found = {stage: sorted([(sum(count), count) for count in self.counts[stage]]) for stage in self.counts}
-        return ascending({stage: tuple([count for _, count in found[stage]]) for stage in found if found[stage]})
+    def is_reached(self, stage, count):
+        """Whether a least count found for a stage is at most a count."""
+        for earlier in self.counts[stage]:
+            if is_at_most(earlier, count):
+                return True
+        return False
+
+    def least_table(self):
+        """What has been found."""
+        return {stage: tuple(self.counts[stage]) for stage in self.counts if self.counts[stage]}
 
     def use(self, stage, count):
         """Put the counts that steps make with a new count of a part."""
         for user, step, parts in self.into[stage]:
+            # What has a least count within it already is no other one, whatever is added.
+            if self.is_reached(user, count):
+                continue
             if step[1] == "do":
                 self.put(user, added(self.units[step[2]], count))
                 continue
@@ -139,7 +147,10 @@ class CountSearch:
 
 def is_at_most(count, other):
     """Whether each number of a count is at most that of the other one."""
-    return all([count[at] <= other[at] for at in range(len(count))])
+    for at, number in enumerate(count):
+        if number > other[at]:
+            return False
+    return True
 
 
 def added(count, other):

@@ -191,10 +191,8 @@ def check_ring(table, lap, base):
     if not isinstance(lap, tuple) or not isinstance(base, tuple) or not lap or not table.book.is_stage(lap[-1]):
         return False
     foot = ((lap[-1][0], 0),)
-    # One lap shows all calls: those into the lap, within it, and out of it.
-    if not is_open_moment(table, foot + base) or not is_open_moment(table, foot + lap + base):
-        return False
-    return debt(table, lap) > 0
+    # One lap shows all calls: those into the lap, within it, and out of it, which are also those without a lap.
+    return is_open_moment(table, foot + lap + base) and debt(table, lap) > 0
 
 
 def soonest(table, wanted):

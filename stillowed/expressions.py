@@ -51,12 +51,11 @@ class Written:
     def put(self, expression):
         """Put an expression behind its parts, and return its number."""
         word = expression[0]
-        if word == "seq":
-            numbers = [self.put(part) for part in expression[1]]
-            return self.put_chain(numbers)
-        if word == "either":
-            numbers = [self.put(part) for part in expression[1]]
-            return self.put_node(word, tuple(numbers))
+        if word in ("seq", "either"):
+            numbers = []
+            for part in expression[1]:
+                numbers.append(self.put(part))
+            return self.put_chain(numbers) if word == "seq" else self.put_node(word, tuple(numbers))
         if word in ("maybe", "again"):
             return self.put_node(word, (self.put(expression[1]),))
         if word == "nothing":
@@ -109,14 +108,14 @@ class Written:
 
     def grow(self, number):
         """Add to a node what its parts give now, and return whether that is more than before."""
-        before = self.many(number)
+        before = self.rows_found(number)
         for length in range(self.size + 1):
             self.grow_layer(number, length)
-            if self.many(number) > MOST_ROWS:
+            if self.rows_found(number) > MOST_ROWS:
                 raise Refused("wide")
-        return self.many(number) > before
+        return self.rows_found(number) > before
 
-    def many(self, number):
+    def rows_found(self, number):
         """How many rows a node has."""
         return sum([len(layer) for layer in self.rows[number]])
 
@@ -143,7 +142,7 @@ class Written:
     def copy_rows(self, layer, number, length):
         """Add the rows of a node with so many deeds, if there is such a node."""
         if number is not None:
-            for row in self.rows[number][length]:
+            for row in list(self.rows[number][length]):
                 layer[row] = True
 
     def join_rows(self, layer, first, second, least, length):

@@ -3,7 +3,7 @@
 from heapq import heappop, heappush
 
 from stillowed.errors import Refused
-from stillowed.rows import in_order, within
+from stillowed.rows import within
 from stillowed.steps import steps_into
 
 
@@ -11,7 +11,8 @@ class ListSearch:
     """Finds the least endings of all stages by a view, the shorter ones first.
 
     A least ending is made of least endings of the parts, which are not longer. So what is found when its length is
-    due is a least ending, unless an earlier one of the stage lies within it.
+    due is a least ending, unless an earlier one of the stage lies within it. All are found in order: a row with the
+    length of one of its parts equals the row of this part.
 
     With `called`, a dict of lists, called courses have the endings of these lists and no others.
     """
@@ -40,18 +41,27 @@ class ListSearch:
         """A dict from each stage with an ending to the tuple of its least ones."""
         while self.queue:
             _, row, stage = heappop(self.queue)
-            if any([within(shorter, row) for shorter in self.rows[stage]]):
+            if self.is_held(stage, row):
                 continue
             self.rows[stage].append(row)
             if len(self.rows[stage]) > self.most or len(row) > self.longest:
                 raise Refused("wide")
             self.use(stage, row)
-        # Rows of one length may have been found in any order.
-        return {stage: in_order(self.rows[stage]) for stage in self.rows if self.rows[stage]}
+        return {stage: tuple(self.rows[stage]) for stage in self.rows if self.rows[stage]}
+
+    def is_held(self, stage, row):
+        """Whether a least ending found for a stage lies within a row."""
+        for shorter in self.rows[stage]:
+            if within(shorter, row):
+                return True
+        return False
 
     def use(self, stage, row):
         """Put the endings that steps make with a new ending of a part."""
         for user, step, parts in self.into[stage]:
+            # What holds a least ending needs no more deeds: it is no other one.
+            if self.is_held(user, row):
+                continue
             if step[1] == "do":
                 self.put(user, self.view[step[2]] + row)
                 continue

@@ -58,7 +58,7 @@ def check_limits(most, longest):
 def lists(book, view, *, most=60, longest=40):
     """A dict from each useful stage to its list of least endings by the view."""
     check_limits(most, longest)
-    return ascending(ListSearch(book, view, None, most, longest).found())
+    return ListSearch(book, view, None, most, longest).found()
 
 
 def lists_to_depth(book, view, depth, *, most=60, longest=40):
@@ -69,8 +69,11 @@ def lists_to_depth(book, view, depth, *, most=60, longest=40):
     found = ListSearch(book, view, {}, most, longest).found()
     # With as many open calls as there are courses, all least endings are there.
     for _ in range(min(depth, len(book.names()))):
-        found = ListSearch(book, view, found, most, longest).found()
-    return ascending(found)
+        before = found
+        found = ListSearch(book, view, before, most, longest).found()
+        if found == before:
+            break
+    return found
 
 
 def lists_by(table, view):

@@ -52,14 +52,20 @@ def onward(book, useful, stage):
 def run_to(book, stage):
     """The first of the shortest runs that have a stage innermost."""
     useful = ranks(book)
+    many = arrivals_for(book, useful, stage)[stage][0]
+    if many > MOST_MOVES:
+        raise Refused("long")
+    return FirstRun(book, useful, distances(book, useful, stage)).moves_from_start(many)
+
+
+def arrivals_for(book, useful, stage):
+    """What `met_arrivals` finds; raises NoEnding or Refused("unmet") if the stage is not among it."""
     if stage not in useful:
         raise NoEnding(stage)
     found = met_arrivals(book, useful)
     if stage not in found:
         raise Refused("unmet")
-    if found[stage][0] > MOST_MOVES:
-        raise Refused("long")
-    return FirstRun(book, useful, distances(book, useful, stage)).moves_from_start(found[stage][0])
+    return found
 
 
 def distances(book, useful, goal):

@@ -179,7 +179,7 @@ def deeds_of(book, run):
         if fault_of(book, useful, stage, move) is not None:
             raise InvalidMove(at)
         opened.pop()
-        opened.extend(reversed(stages_put(book, stage, move)))
+        opened.extend(stages_put(book, stage, move)[::-1])
         if move[0] == "do":
             row.append(book.steps(stage[0])[move[1]][2])
     return tuple(row)

@@ -58,7 +58,7 @@ class Retrace:
         """The shortest paths to the frames of a called course, out of those to the frames of the calling one."""
         found = {}
         for fact, k, inner in self.entries.get((called, rest), ()):
-            if fact[:2] in paths and inner + (0, inner[1]) in self.walks:
+            if fact[:2] in paths:
                 cost, entry = paths[fact[:2]]
                 total = cost + self.walks[fact] + 1
                 if inner not in found or total < found[inner][0]:

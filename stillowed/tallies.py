@@ -50,17 +50,17 @@ class FinishNumbers:
         """Put a stage on top."""
         self.opened.append((stage, joined(self.table[stage], self.opened[-1][1])))
 
-    def stage(self):
+    def innermost_stage(self):
         """The innermost stage, None at the end."""
         return self.opened[-1][0]
 
-    def many(self, total):
+    def many_from_here(self, total):
         """How many finishes with so many moves there are from here."""
         return self.opened[-1][1][total]
 
     def moves_here(self):
         """The moves from here, in their order."""
-        stage = self.stage()
+        stage = self.innermost_stage()
         if stage is None:
             return []
         found = [("leave",)] if self.book.is_end(stage) else []
@@ -77,7 +77,7 @@ class FinishNumbers:
         """How many finishes with so many moves there are behind one of these moves."""
         kept = list(self.opened)
         self.make(move)
-        many = self.many(total)
+        many = self.many_from_here(total)
         self.opened = kept
         return many
 
@@ -91,9 +91,9 @@ def nth_run(book, stage, n):
     """The finish number `n` of a stage, None if no more than `n` have at most 30 moves."""
     walk = FinishNumbers(book, stage)
     for total in range(1, MOST_MOVES + 1):
-        if n < walk.many(total):
+        if n < walk.many_from_here(total):
             return run_numbered(walk, total, n)
-        n -= walk.many(total)
+        n -= walk.many_from_here(total)
     return None
 
 
@@ -118,7 +118,7 @@ def place_of_run(book, stage, run):
         raise Refused("long")
     check_finish(book, stage, run)
     walk = FinishNumbers(book, stage)
-    number = sum([walk.many(total) for total in range(len(run))])
+    number = sum([walk.many_from_here(total) for total in range(len(run))])
     for at, move in enumerate(run):
         left = len(run) - at - 1
         for other in walk.moves_here():
@@ -134,10 +134,10 @@ def check_finish(book, stage, run):
     every = {one: True for one in book.stages()}
     opened = [stage]
     for at, move in enumerate(run):
-        innermost_stage = opened[-1] if opened else None
-        if fault_of(book, every, innermost_stage, move) is not None:
+        top = opened[-1] if opened else None
+        if fault_of(book, every, top, move) is not None:
             raise InvalidMove(at)
         opened.pop()
-        opened.extend(reversed(stages_put(book, innermost_stage, move)))
+        opened.extend(stages_put(book, top, move)[::-1])
     if opened:
         raise InvalidMove(len(run))

@@ -1,19 +1,12 @@
 """Trails: short certificates that stages are met."""
 
-from stillowed.errors import NoEnding, Refused
-from stillowed.met import met_arrivals
+from stillowed.met import arrivals_for
 from stillowed.useful import ranks
 
 
 def trail_to(book, stage):
     """Some trail to a moment in which the stage is innermost."""
-    useful = ranks(book)
-    if stage not in useful:
-        raise NoEnding(stage)
-    arrivals = met_arrivals(book, useful)
-    if stage not in arrivals:
-        raise Refused("unmet")
-    return trail_along(arrivals, stage)
+    return trail_along(arrivals_for(book, ranks(book), stage), stage)
 
 
 def trail_along(arrivals, stage):

@@ -32,7 +32,7 @@ def finish_moves(book, chosen, stage):
         else:
             step = book.steps(stage[0])[way[1]]
             moves_made.append((step[1], way[1]))
-            opened.extend(reversed(parts_of(stage[0], step)))
+            opened.extend(parts_of(stage[0], step)[::-1])
     return moves_made
 
 

@@ -6,6 +6,7 @@ import unittest
 
 import brute
 from samples import NEST, ORDER, call, course, do, full_book, one_course, tall
+from tables import clear_tables
 from stillowed.books import Book
 from stillowed.debts import Heights, Ring, check_heights, check_ring, debt, greatest_debt, sites, soonest
 from stillowed.errors import InvalidNumber, Refused
@@ -13,18 +14,6 @@ from stillowed.lengths import plain
 from stillowed.met import met
 from stillowed.moments import check_moment, start, way_to
 from stillowed.owed import OwedTable, court
-
-
-def tables(seed, many, **told):
-    rng = random.Random(seed)
-    found = []
-    for book in brute.mixed_books(seed, many, **told):
-        if (book.main(), 0) in brute.useful(book):
-            for view in (plain(book), brute.random_view(rng, book, 1), brute.random_view(rng, book, 3)):
-                table = court(book, view)
-                if isinstance(table, OwedTable):
-                    found.append(table)
-    return found
 
 
 def moments_of(table, most_stages=6, most=800):
@@ -58,7 +47,7 @@ class SitesTest(unittest.TestCase):
         self.assertEqual(sites(court(book, {"a": ()})), (("main", 1),))
 
     def test_random_books(self):
-        for table in tables(151, 200):
+        for table in clear_tables(151, 200):
             book, good = table.book, brute.useful(table.book)
             expected = [(stage[0], k) for stage in met(book) for k in brute.leaving(book, stage)
                         if book.steps(stage[0])[k][1] == "call" and all(p in good for p in brute.parts(book, stage, k))]
@@ -133,7 +122,7 @@ class GreatestDebtTest(unittest.TestCase):
 
     def test_random_tables(self):
         seen = {Heights: 0, Ring: 0}
-        for table in tables(152, 400):
+        for table in clear_tables(152, 400):
             found = greatest_debt(table)
             seen[type(found)] += 1
             moments, whole = moments_of(table)
@@ -258,7 +247,7 @@ class SoonestTest(unittest.TestCase):
 
     def test_random_tables(self):
         later = 0
-        for table in tables(153, 300):
+        for table in clear_tables(153, 300):
             moments, whole = moments_of(table, 5, 500)
             for wanted in range(8):
                 found = soonest(table, wanted)

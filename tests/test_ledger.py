@@ -6,27 +6,15 @@ import unittest
 
 import brute
 from samples import NEST, ORDER, call, course, do, one_course
+from tables import clear_tables
 from stillowed.books import Book
 from stillowed.errors import InvalidMove, InvalidNumber
 from stillowed.ledger import Ledger, booked, regret
 from stillowed.lengths import plain
 from stillowed.moments import moves, run_moments, start
-from stillowed.owed import OwedTable, court
+from stillowed.owed import court
 
 RUN = (("do", 0), ("call", 1), ("do", 1), ("do", 2), ("leave",), ("do", 2), ("leave",))
-
-
-def clear_tables(seed, many, **told):
-    """Tables of clear books by several views."""
-    rng = random.Random(seed)
-    found = []
-    for book in brute.mixed_books(seed, many, **told):
-        if (book.main(), 0) in brute.useful(book):
-            for view in (plain(book), brute.random_view(rng, book, 1), brute.random_view(rng, book, 3)):
-                table = court(book, view)
-                if isinstance(table, OwedTable):
-                    found.append(table)
-    return found
 
 
 def shown(table, moment, move):

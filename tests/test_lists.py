@@ -166,8 +166,14 @@ class ListsTest(unittest.TestCase):
         self.assertEqual(lists(book, {"a": ()}, longest=0)[("main", 0)], ((),))
         view = {"a": ("x",) * 13}
         self.assertEqual(lists(book, view)[("main", 0)], (("x",) * 39,))
-        with self.assertRaises(Refused):
-            lists(book, {"a": ("x",) * 14})
+        line = one_course(3, (2,), do(0, "a", 1), do(1, "a", 2))
+        self.assertEqual(lists(line, {"a": ("x",) * 20}), lists_to_depth(line, {"a": ("x",) * 20}, 3))
+        self.assertEqual(lists(line, {"a": ("x",) * 20})[("main", 0)], (("x",) * 40,))
+        for one, view in ((book, {"a": ("x",) * 14}), (one_course(2, (1,), do(0, "a", 1)), {"a": ("x",) * 41})):
+            with self.assertRaises(Refused):
+                lists(one, view)
+            with self.assertRaises(Refused):
+                lists_to_depth(one, view, 0)
         with self.assertRaises(Refused):
             lists(one_course(2, (1,), do(0, "a", 1)), {"a": ("x",) * 400})
         # A longer ending that has a shorter one within it is no least one.

@@ -93,6 +93,12 @@ class MetTest(unittest.TestCase):
         self.assertEqual(run_to(book, ("y", 0)), (("call", 2),))
         self.assertEqual(run_to(book, ("y", 1))[:2], (("call", 2), ("call", 0)))
 
+    def test_no_leaving_where_the_course_may_not_end(self):
+        # From ("y", 0) the goal is two moves away, from ("main", 1) below it one move; but y ends later.
+        book = Book((course("main", 3, (2,), call(0, "y", 1), call(1, "x", 2)),
+                     course("y", 4, (3,), do(0, "a", 1), call(1, "x", 2), do(2, "a", 3)), course("x", 1, (0,))))
+        self.assertEqual(run_to(book, ("x", 0)), (("call", 0), ("do", 0), ("call", 1)))
+
     def test_errors_in_their_order(self):
         for book, stage, error, value in (
                 (DEAD, ("main", 0), NoEnding, ("main", 0)),

@@ -69,6 +69,8 @@ class LooksTest(unittest.TestCase):
         rows[("main", 0)] = ("a", "a")
         self.assertEqual(looks(book, plain(book), rows), (("main", 0), 0))
         self.assertIsNone(looks(book, plain(book), {}))
+        turned = {("main", 1): ("z",), ("main", 0): ("q",)}
+        self.assertEqual(looks(book, plain(book), turned), (("main", 0), 0))
         # A step with a part that is no key is no look.
         self.assertIsNone(looks(book, plain(book), {("main", 0): ("z", "z")}))
         self.assertEqual(looks(book, plain(book), {("main", 0): ("b", "z"), ("main", 1): ()}), (("main", 0), 0))

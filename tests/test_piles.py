@@ -270,6 +270,27 @@ class FitTest(unittest.TestCase):
         self.assertFalse(is_possible(found, (("x", 0), ("main", 3))))
         self.assertEqual(links(found), ((("main", 0), ("main", 1), ("x", 0)),))
 
+    def test_the_shorter_way_into_a_call(self):
+        # Both the stages 1 and 2 call x and go on at 3; the way to stage 1 passes a longer call.
+        long = course("y", 4, (3,), *[do(n, "h", n + 1) for n in range(3)])
+        book = Book((course("main", 4, (3,), call(0, "y", 1), do(0, "h", 2), call(1, "x", 3), call(2, "x", 3)),
+                     course("x", 2, (1,), do(0, "a", 1)), long))
+        found = piles_of(book, ("a",))
+        self.assertEqual(run_like(found, (("x", 0), ("main", 3))), (("do", 1), ("call", 3)))
+        # The same, where a deed is seen in x or before it: the frames of x begin at unlike places.
+        book = Book((course("main", 4, (3,), do(0, "a", 1), call(1, "x", 3), call(0, "y", 2), call(2, "x", 3)),
+                     course("x", 2, (1,), do(0, "a", 1), do(0, "h", 1)), long))
+        found = piles_of(book, ("a",), ("a",))
+        self.assertEqual(run_like(found, (("x", 1), ("main", 3))), (("do", 0), ("call", 1), ("do", 1)))
+        self.assertEqual(found.frames[("x", 0)], 6)
+        self.assertEqual(found.frames[("x", 1)], 2)
+        # And where the outer frames differ: only the one in which more is seen is near.
+        book = Book((course("main", 4, (3,), call(0, "z", 3), do(0, "a", 1), call(1, "z", 3)),
+                     course("z", 3, (2,), call(0, "y", 1), call(1, "x", 2), call(0, "x", 2)),
+                     course("x", 2, (1,), do(0, "a", 1), do(0, "h", 1)), long))
+        found = piles_of(book, ("a",), ("a",))
+        self.assertEqual(run_like(found, (("x", 1), ("z", 2), ("main", 3))), (("call", 0), ("call", 2), ("do", 0)))
+
     def test_the_limit_of_moves(self):
         for rank in (19999, 20000, 20001):
             book = chain_of_rank(rank)
