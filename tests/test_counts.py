@@ -145,6 +145,25 @@ class LeastCountsTest(unittest.TestCase):
                 self.assertEqual(found[stage], least_of(set(found[stage])))
             self.assertIs(check_counts(book, found), True)
 
+    def test_greater_books_by_closure(self):
+        large = 0
+        for book in brute.forward_books(116, 200, courses=4, stages=6, deeds=8, call_odds=0.5, end_odds=0):
+            try:
+                table = least_counts(book)
+            except Refused:
+                continue
+            self.assertEqual(list(table), sorted(brute.useful(book)))
+            for stage, counts in table.items():
+                made = {count(book, ())} if brute.is_end(book, stage) else set()
+                for k in brute.leaving(book, stage):
+                    step, parts = book.steps(stage[0])[k], brute.parts(book, stage, k)
+                    if all(part in table for part in parts):
+                        firsts = (count(book, (step[2],)),) if step[1] == "do" else table[parts[0]]
+                        made |= {tuple(map(sum, zip(x, y))) for x in firsts for y in table[parts[-1]]}
+                self.assertEqual(counts, least_of(made))
+                large += any(sum(one) > SIZE for one in counts)
+        self.assertGreater(large, 10)
+
     def test_sixty_and_beyond(self):
         book = fan(60)
         self.assertEqual(len(least_counts(book)[("main", 0)]), 60)

@@ -116,6 +116,26 @@ class ListsTest(unittest.TestCase):
                     many_rows += len(rows) > 1
         self.assertGreater(many_rows, 100)
 
+    def test_greater_books_by_closure(self):
+        # Every step makes only rows that hold one of the stage's list, and each row of the list is made by some way.
+        long = 0
+        for book in brute.forward_books(129, 200, courses=4, stages=6, deeds=8, call_odds=0.5, end_odds=0):
+            try:
+                table = lists(book, plain(book))
+            except Refused:
+                continue
+            self.assertEqual(list(table), sorted(brute.useful(book)))
+            for stage, rows in table.items():
+                made = {()} if brute.is_end(book, stage) else set()
+                for k in brute.leaving(book, stage):
+                    step, parts = book.steps(stage[0])[k], brute.parts(book, stage, k)
+                    if all(part in table for part in parts):
+                        firsts = ((step[2],),) if step[1] == "do" else table[parts[0]]
+                        made |= {x + y for x in firsts for y in table[parts[-1]]}
+                self.assertEqual(rows, least(made))
+                long += any(len(row) > SIZE for row in rows)
+        self.assertGreater(long, 10)
+
     def test_wrong_limits_in_their_order(self):
         wide = one_course(1, (), *[do(0, word, 0) for word in "ab"])
         for value in WRONG + [0, 61]:
