@@ -4,6 +4,7 @@ import copy
 import unittest
 
 import brute
+from every_call import EveryCall, written
 from samples import NEST, ORDER, TORN
 from stillowed.books import Book
 from stillowed.bounds import length_bound, tallest
@@ -99,78 +100,13 @@ CALLS = [
 ]
 
 
-def written(value):
-    """A value with everything in it that may be compared, the order of keys included."""
-    if isinstance(value, dict):
-        return ("dict", [(written(key), written(value[key])) for key in value])
-    if isinstance(value, (tuple, list)):
-        return (type(value).__name__, [written(part) for part in value])
-    if isinstance(value, (int, str, type(None))):
-        return (type(value).__name__, value)
-    return (type(value).__name__, [(name, written(part)) for name, part in sorted(vars(value).items())])
-
-
-def unordered(value):
-    """A value with everything in it that may be compared, the order of keys left out."""
-    if isinstance(value, (dict, tuple, list, int, str, type(None))):
-        return value
-    return {name: unordered(part) for name, part in vars(value).items()}
-
-
-class EveryFunctionTest(unittest.TestCase):
-    def test_by_position_and_by_name(self):
-        for function, told in CALLS:
-            answer = function(**told)
-            self.assertEqual(written(function(*told.values())), written(answer), function.__name__)
-
-    def test_arguments_stay_as_they_were(self):
-        for function, told in CALLS:
-            before = written(told)
-            function(**told)
-            self.assertEqual(written(told), before, function.__name__)
-
-    def test_equal_arguments_give_equal_results(self):
-        for function, told in CALLS:
-            answer = function(**told)
-            again = {name: copy.deepcopy(value) for name, value in told.items()}
-            self.assertEqual(written(function(**again)), written(answer), function.__name__)
-            turned = {name: dict(reversed(list(value.items()))) if isinstance(value, dict) else value
-                      for name, value in told.items()}
-            self.assertEqual(unordered(function(**turned)), unordered(answer), function.__name__)
-
-    def test_a_changed_answer_changes_no_later_one(self):
-        for function, told in CALLS:
-            answer = function(**told)
-            if isinstance(answer, dict):
-                before = written(answer)
-                answer.clear()
-                self.assertEqual(written(function(**told)), before, function.__name__)
-                answer = function(**told)
-                for key in list(answer):
-                    answer[key] = None
-                self.assertEqual(written(function(**told)), before, function.__name__)
-
-    def test_a_changed_argument_changes_no_earlier_answer(self):
-        view = dict(VIEW)
-        answer = chosen_rows(ORDER, view)
-        before = written(answer)
-        view.clear()
-        self.assertEqual(written(answer), before)
+class EveryFunctionTest(EveryCall, unittest.TestCase):
+    calls = CALLS
 
     def test_limits_of_lists_by_name(self):
         self.assertEqual(lists(ORDER, view=VIEW, longest=40, most=60), LISTS)
         self.assertEqual(lists_to_depth(book=ORDER, view=VIEW, depth=2, longest=4, most=1), LISTS)
         self.assertEqual(one_desk(book=ORDER, desk="q")[0], ("card", "q"))
-
-    def test_changed_attributes_of_answers_change_no_later_ones(self):
-        for function, told in ((court, {"book": ORDER, "view": VIEW}), (piles_of, {"book": ORDER, "seen": ("card",)}),
-                               (greatest_debt, {"table": TABLE})):
-            answer = function(**told)
-            before = written(function(**told))
-            for value in vars(answer).values():
-                if isinstance(value, dict):
-                    value.clear()
-            self.assertEqual(written(function(**told)), before)
 
     def test_objects_keep_copies(self):
         for kind, told in CALLS:

@@ -30,7 +30,19 @@ FUNCTIONS = {
              "lists_to_depth(book,view,depth,*,most=60,longest=40) lists_by(table,view) lists_of(table,moment) "
              "count_of(table,moment)",
     "owed": "joined_row(book,view,rows,stage,k) looks(book,view,rows) court(book,view)",
-    "trails": "trail_to(book,stage)",
+    "trails": "trail_to(book,stage) check_trail(book,stage,trail) trail_moment(book,trail) trail_run(book,trail)",
+    "pairs": "holders(one,other) holds(one,other) swapped(book,course) meet(one,other) reached(one,other) "
+             "is_shared(one,other,moment)",
+    "single": "progress(book,view,row) lies_in_all(book,view,stage,row) counter(book,view,stage,row) "
+              "owed_at(book,view,moment) owing(book,view)",
+    "surely": "lowest(piles) sure(table,piles) check_sure(table,piles,value) unsure(table,piles,row) "
+              "least_owing(table,piles) carried(table,seen,row,deed)",
+    "tails": "tail_need(table,most) tail_pair(table,most,k) check_tail_pair(table,k,one,other) told_apart(table,most)",
+    "texts": "read_courses(text) show_courses(courses) book_of(courses)",
+    "unfold": "courses_of(book)",
+    "bookings": "first_booking(table,run) check_booking(table,run,booking) payments(table,run,booking,since) "
+                "many_bookings(table,run)",
+    "compared": "compare(one,other) check_compared(one,other,value)",
     "moments": "start(book) check_moment(book,moment) way_to(book,moment) all_moments(book,most) moves(book,moment) "
                "moved(book,moment,move) run_moments(book,run) deeds_of(book,run)",
 }
@@ -42,6 +54,8 @@ CLASSES = {
     "piles": "Piles(book,seen,shown,walks,frames)",
     "debts": "Heights(table,heights,peak) Ring(table,lap,base)",
     "ledger": "Ledger(table)",
+    "surely": "Sure(rows,witnesses,holdings)",
+    "compared": "Alike(leftovers) Parted(pile,one,other)",
     "owed": "OwedTable(book,view,rows,chosen,ranks) TwoEndings(stage,trail,least,chosen,one,other)",
 }
 
