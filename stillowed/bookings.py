@@ -15,7 +15,7 @@ def lines_of(table, run):
     """For each move of any value that is a run: (row owed before it, its shown row, this and the row owed after it)."""
     moments = run_moments(table.book, run)
     owed_rows = [table.owed(moment) for moment in moments]
-    shown_rows = [shown_row(table, moments[at], move) for at, move in enumerate(run)]
+    shown_rows = [shown_row(table.book, table.view, moments[at], move) for at, move in enumerate(run)]
     return [(owed_rows[at], shown, shown + owed_rows[at + 1]) for at, shown in enumerate(shown_rows)]
 
 

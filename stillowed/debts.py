@@ -76,18 +76,30 @@ class Ring:
 
 def greatest_debt(table):
     """The Heights of the debts if they have a bound, otherwise a Ring."""
-    opened = {name: [] for name in met_courses(table)}
-    for stage, _, course, rest in sites_of(table):
-        opened[stage[0]].append((course, rest))
-    heights = {name: 0 for name in opened}
-    for stage in table.rows:
-        heights[stage[0]] = max(heights[stage[0]], debt(table, (stage,)))
+    opened = opened_of(table)
+    heights = top_debts(table)
     # As in a search for longest ways: where as many rounds as there are courses do not settle it, there is a ring.
     for _ in opened:
         grown = [name for name in opened if raise_height(table, opened, heights, name)]
         if not grown:
             return Heights(table, ascending(heights), peak_of(table, opened, heights))
     return ring_of(table, opened)
+
+
+def opened_of(table):
+    """For each met course the pairs (opened course, rest) of its sites."""
+    opened = {name: [] for name in met_courses(table)}
+    for stage, _, course, rest in sites_of(table):
+        opened[stage[0]].append((course, rest))
+    return opened
+
+
+def top_debts(table):
+    """For each met course the greatest debt of its met stages."""
+    found = {name: 0 for name in met_courses(table)}
+    for stage in table.rows:
+        found[stage[0]] = max(found[stage[0]], debt(table, (stage,)))
+    return found
 
 
 def raise_height(table, opened, heights, name):
@@ -188,11 +200,16 @@ def is_open_moment(table, value):
 
 def check_ring(table, lap, base):
     """Whether any two values are the lap and the base of a Ring."""
+    return is_lap(table, lap, base) and debt(table, lap) > 0
+
+
+def is_lap(table, lap, base):
+    """Whether any two values are stages, innermost first, that can be opened again and again, and those before them."""
     if not isinstance(lap, tuple) or not isinstance(base, tuple) or not lap or not table.book.is_stage(lap[-1]):
         return False
     foot = ((lap[-1][0], 0),)
     # One lap shows all calls: those into the lap, within it, and out of it, which are also those without a lap.
-    return is_open_moment(table, foot + lap + base) and debt(table, lap) > 0
+    return is_open_moment(table, foot + lap + base)
 
 
 def soonest(table, wanted):

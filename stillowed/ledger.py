@@ -15,15 +15,15 @@ def regret(table, moment, move):
     if word is not None:
         raise InvalidMove(word)
     after = moment_behind(table.book, moment, move)
-    return len(shown_row(table, moment, move)) + len(table.owed(after)) - len(table.owed(moment))
+    return len(shown_row(table.book, table.view, moment, move)) + len(table.owed(after)) - len(table.owed(moment))
 
 
-def shown_row(table, moment, move):
+def shown_row(book, view, moment, move):
     """The row by the view of the deed of a move that is let, empty for other moves."""
     if move[0] != "do":
         return ()
-    step = table.book.steps(moment[0][0])[move[1]]
-    return table.view[step[2]]
+    step = book.steps(moment[0][0])[move[1]]
+    return view[step[2]]
 
 
 class Ledger:
@@ -46,7 +46,7 @@ class Ledger:
         word = fault_of(self.table.book, self._useful, innermost(self._moment), move)
         if word is not None:
             raise InvalidMove(word)
-        shown = shown_row(self.table, self._moment, move)
+        shown = shown_row(self.table.book, self.table.view, self._moment, move)
         self._moment = moment_behind(self.table.book, self._moment, move)
         self._done += 1
         return self._keep(shown, self.table.owed(self._moment))

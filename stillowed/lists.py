@@ -20,10 +20,17 @@ def row_by(view, row):
 
 def least_rows(rows):
     """The rows within which no other one of them lies, in order."""
+    return few_least_rows(rows, len(rows))
+
+
+def few_least_rows(rows, most):
+    """As `least_rows`; raises Refused("wide") as soon as there are more than so many."""
     kept = []
     for row in in_order(rows):
         if not any([within(shorter, row) for shorter in kept]):
             kept.append(row)
+            if len(kept) > most:
+                raise Refused("wide")
     return tuple(kept)
 
 

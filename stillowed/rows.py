@@ -69,6 +69,15 @@ def last_fit(u, v):
     return tuple([len(v) - 1 - at for at in reversed(turned)])
 
 
+def begun(row, other):
+    """How many deeds the longest beginning of a row has that lies within another row."""
+    many = 0
+    for deed in other:
+        if many < len(row) and row[many] == deed:
+            many += 1
+    return many
+
+
 def common(u, v):
     """The greatest rows that lie within both, in order."""
     return common_all((u, v))

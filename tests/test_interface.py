@@ -43,6 +43,23 @@ FUNCTIONS = {
     "bookings": "first_booking(table,run) check_booking(table,run,booking) payments(table,run,booking,since) "
                 "many_bookings(table,run)",
     "compared": "compare(one,other) check_compared(one,other,value)",
+    "depths": "debts_at(table,depth) deepest(table) least_depth(table,wanted) slope(table) "
+              "check_slope(table,gain,span,heights,lap,base)",
+    "givings": "check_giving(book,view,giving) giving_of(table,moments)",
+    "held": "held(rows) held_of(table,moment) shares(table,moment,row) holds_in_all(table,moment,row) "
+            "lacking(table,moment,row) lacking_all(table,moment,rows) fewest(table,moment,deed) stops(rows,row) "
+            "check_stops(rows,row,paper)",
+    "loads": "hidden(table) loading_steps(table) left_free(table,movers) loads(table,movers) "
+             "check_loads(table,movers,heights) peak(table,movers,stage,wanted) load_at(table,movers,moment) "
+             "loaded(table,movers,moment,gain)",
+    "lookers": "known(table,piles) check_knowing(table,piles,value) tracking(table,seen) row_by_changes(tracked,shown)",
+    "made": "made_book(book,making) put_books(book,parts) part_view(book,parts)",
+    "makers": "makers(book,view,table) enough_depth(book,view,table) bearing(book,view,table) "
+              "list_run(book,made,stage,place) check_lists(book,view,table,made)",
+    "makings": "made_row(making,row) own_deeds(making) is_exact(making) couple(making) check_couple(making,u,v) "
+               "needs(making,row) unmade(making,row)",
+    "orders": "wrong_at(book,moment,row) next_deeds(book,moment,row) run_by(book,moment,row) spans(book,row) "
+              "check_no(book,moment,row,triples) rests(table,moment,row)",
     "moments": "start(book) check_moment(book,moment) way_to(book,moment) all_moments(book,most) moves(book,moment) "
                "moved(book,moment,move) run_moments(book,run) deeds_of(book,run)",
 }
@@ -56,6 +73,8 @@ CLASSES = {
     "ledger": "Ledger(table)",
     "surely": "Sure(rows,witnesses,holdings)",
     "compared": "Alike(leftovers) Parted(pile,one,other)",
+    "depths": "Slope(table,gain,span,heights,lap,base)",
+    "lookers": "Known(owes,places) Unknown(one,other) Tracked(basis,effects) Untracked(one,other)",
     "owed": "OwedTable(book,view,rows,chosen,ranks) TwoEndings(stage,trail,least,chosen,one,other)",
 }
 
