@@ -73,9 +73,9 @@ class Comparison:
         p, q = self.leftovers[course]
         u = self.one.rows[rest] + p
         v = self.other.rows[rest] + q
-        if u[len(u) - len(v):] == v and len(u) >= len(v):
+        if u[len(u) - len(v):] == v:
             return (u[:len(u) - len(v)], ())
-        if v[len(v) - len(u):] == u and len(v) >= len(u):
+        if v[len(v) - len(u):] == u:
             return ((), v[:len(v) - len(u)])
         return None
 
@@ -98,13 +98,8 @@ def check_compared(one, other, value):
     comparison = Comparison(one, other)
     if isinstance(value, Alike):
         answer = comparison.answer()
-        return isinstance(answer, Alike) and are_leftovers(value.leftovers) and value.leftovers == answer.leftovers
+        return isinstance(answer, Alike) and value.leftovers == answer.leftovers
     if not isinstance(value, Parted) or not comparison.shared.has(value.pile):
         return False
     rows = (one.owed(value.pile), other.owed(value.pile))
     return rows[0] != rows[1] and isinstance(value.one, tuple) and (value.one, value.other) == rows
-
-
-def are_leftovers(value):
-    """Whether any value is a dict."""
-    return isinstance(value, dict)

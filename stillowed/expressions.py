@@ -24,6 +24,17 @@ def normal(expression):
     return (word, tuple(parts))
 
 
+def marks_in(expression):
+    """How many deeds and calls are written in an expression."""
+    word = expression[0]
+    if word in ("deed", "call"):
+        return 1
+    if word == "nothing":
+        return 0
+    parts = expression[1] if word in ("seq", "either") else (expression[1],)
+    return sum([marks_in(part) for part in parts])
+
+
 def rows_of(courses, name, size):
     """All endings of at most `size` deeds of the first stage of a course, by the expressions, in order."""
     if not is_number_to(size, MOST_SIZE):

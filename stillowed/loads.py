@@ -2,7 +2,7 @@
 
 from heapq import heappop, heappush
 
-from stillowed.debts import debt
+from stillowed.debts import debt, rests_behind
 from stillowed.errors import InvalidNumber, Refused
 from stillowed.kinds import ascending, is_number, is_number_to
 from stillowed.steps import all_in, steps_out
@@ -157,21 +157,12 @@ def lowest_pile(table, onward, stage, wanted):
         found[state] = arrival
         here, below = state
         if below + debt(table, (here,)) >= wanted:
-            return (here,) + rests_under(found, state)
+            return (here,) + rests_behind(found, state)
         for part, rests, added in onward[here]:
             after = (part, min(wanted, below + added))
             if after not in found:
                 heappush(queue, (many + len(rests), after, (state, rests)))
     return None
-
-
-def rests_under(found, state):
-    """The stages, innermost first, that were put under the innermost one on the way to a state."""
-    rests = []
-    while found[state]:
-        state, added = found[state]
-        rests.extend(added)
-    return tuple(rests)
 
 
 def places_left(table, movers, moment):

@@ -87,6 +87,6 @@ def unmade(making, row):
         place = len(row) - left
         for deed in making:
             many = len(making[deed])
-            if many <= left and row[place:place + many] == making[deed] and left - many in found:
+            if row[place:place + many] == making[deed] and left - many in found:
                 found[left] = (deed,) + found[left - many]
     return found.get(len(row))

@@ -247,9 +247,7 @@ def held_stages(book, view, rows):
 
 
 def passes(book, view, rows, stage):
-    """Whether the row of a stage lies within what each of its ends and steps makes."""
-    if book.is_end(stage) and rows[stage] != ():
-        return False
+    """Whether the row of a stage lies within what each of its steps makes; at an end it is empty."""
     for k, parts in steps_out(book, stage):
         if all_in(parts, rows) and not within(rows[stage], joined_row(book, view, rows, stage, k)):
             return False

@@ -2,7 +2,7 @@
 
 from stillowed.books import MOST_STAGES, Book
 from stillowed.errors import InvalidText
-from stillowed.expressions import normal
+from stillowed.expressions import marks_in, normal
 from stillowed.kinds import LONGEST_NAME, is_letter
 
 DEEPEST = 12
@@ -158,17 +158,6 @@ def course_of(name, expression):
     ends = sorted(whole[2] + ([0] if whole[0] else []))
     marks.link([0], whole[1])
     return (name, many + 1, tuple(ends), marks.steps())
-
-
-def marks_in(expression):
-    """How many deeds and calls are written in an expression."""
-    word = expression[0]
-    if word in ("deed", "call"):
-        return 1
-    if word == "nothing":
-        return 0
-    parts = expression[1] if word in ("seq", "either") else (expression[1],)
-    return sum([marks_in(part) for part in parts])
 
 
 class Marks:

@@ -1,7 +1,7 @@
 """Courses whose lines are the rows of deeds and calls along the steps of a book."""
 
 from stillowed.errors import NoEnding, Refused
-from stillowed.expressions import normal
+from stillowed.expressions import marks_in, normal
 
 MOST_STAGES = 5
 NOTHING = ("nothing",)
@@ -72,7 +72,7 @@ def put_edge(edges, pair, expression):
 
 def cheapest(edges, left):
     """The number that can be taken out with the least that is written twice."""
-    sizes = {pair: size_of(edges[pair]) for pair in edges}
+    sizes = {pair: marks_in(edges[pair]) for pair in edges}
     costs = [(cost_of(sizes, number), number) for number in left]
     return min(costs)[1]
 
@@ -83,17 +83,6 @@ def cost_of(sizes, number):
     out = [sizes[pair] for pair in sizes if pair[0] == number and pair[1] != number]
     around = sizes.get((number, number), 0)
     return sum(into) * (len(out) - 1) + sum(out) * (len(into) - 1) + around * (len(into) * len(out) - 1)
-
-
-def size_of(expression):
-    """How many deeds and calls are written in an expression."""
-    word = expression[0]
-    if word in ("deed", "call"):
-        return 1
-    if word == "nothing":
-        return 0
-    parts = expression[1] if word in ("seq", "either") else (expression[1],)
-    return sum([size_of(part) for part in parts])
 
 
 def without(edges, number):

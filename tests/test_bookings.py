@@ -70,6 +70,13 @@ class BookingTest(unittest.TestCase):
         self.assertEqual(payments(TABLE, run[:1], ((1,),), 0), (None,))
         self.assertEqual(payments(TABLE, run[:1], ((1,),), 1), (None,))
 
+    def test_places_ascend(self):
+        table = court(one_course(3, (2,), do(0, "h", 0), do(0, "a", 1), do(1, "a", 2)), {"h": ("a",), "a": ("a",)})
+        for places in ((0, 1), (0, 2), (1, 2)):
+            self.assertTrue(check_booking(table, (("do", 0),), (places,)))
+        for places in ((1, 0), (0, 0), (2, 1), (1, 1), (0, 3), (0, 1, 2), (0,)):
+            self.assertFalse(check_booking(table, (("do", 0),), (places,)))
+
     def test_runs_with_calls(self):
         table = court(NEST, plain(NEST))
         run = (("do", 0), ("call", 2), ("do", 0), ("call", 2), ("do", 1), ("leave",), ("do", 3))

@@ -69,6 +69,26 @@ class CompareTest(unittest.TestCase):
         self.assertTrue(check_compared(one, other, found))
         self.assertFalse(check_compared(other, one, found))
 
+    def test_leftovers_of_two_entrances(self):
+        # What x owes in both books cannot be done by shared steps; so only its own first stage shows what parts them.
+        steps = [do(0, "a", 1), do(0, "c", 4), call(1, "x", 2), call(4, "x", 5), do(2, "b", 3), do(5, "d", 3)]
+        first = Book((course("m", 6, (1, 3, 4), *steps), course("x", 2, (1,), do(0, "e", 1))))
+        second = Book((first.courses[0], course("x", 2, (0,), do(1, "e", 1))))
+        kinds = (("k",), ("k", "k")), (("k",), ("k",) * 3), (("k",), ("q", "k")), (("k",), ("q",)), (("k", "k"), ("k",))
+        for b in kinds:
+            for d in kinds:
+                one = court(first, {"a": (), "c": (), "e": ("k",), "b": b[0], "d": d[0]})
+                other = court(second, {"a": (), "c": (), "e": (), "b": b[1], "d": d[1]})
+                found = compare(one, other)
+                self.assertTrue(check_compared(one, other, found))
+                alike = b == d == kinds[0]
+                self.assertEqual(isinstance(found, Alike), alike, (b, d))
+                self.assertIs(check_compared(one, other, Alike({"m": ((), ()), "x": ((), ("k",))})), alike)
+                if not alike:
+                    self.assertEqual((found.one, found.other), (one.owed(found.pile), other.owed(found.pile)))
+                    self.assertNotEqual(found.one, found.other)
+                    self.assertTrue(is_shared(first, second, found.pile))
+
     def test_parted(self):
         one, other = table_of("m: a (x) b\nx: c"), table_of("m: a (x) d\nx: c")
         found = compare(one, other)

@@ -171,6 +171,47 @@ class SlopeTest(unittest.TestCase):
         self.assertEqual((found.gain, found.span), (3, 2))
         self.check(table, found)
 
+    def test_the_steepest_of_two_calls_of_one_course(self):
+        for rests in ((1, 2), (2, 1)):
+            book = Book((course("m", 4, (3,), call(0, "m", rests[0]), call(0, "m", rests[1]), do(1, "a", 2), do(2, "a", 3),
+                                do(0, "a", 3)),))
+            table = court(book, plain(book))
+            found = slope(table)
+            self.assertEqual((found.gain, found.span, found.lap), (2, 1, (("m", 1),)))
+            self.check(table, found)
+            self.assertEqual(debts_at(table, 10), (10, 22))
+
+    def right_slope(self, table, gain, span, heights):
+        """Whether numbers have all that is said of a Slope but its lap."""
+        book = table.book
+        if math.gcd(gain, span) != 1 or min(gain, *heights.values()) < 0:
+            return False
+        for stage in table.rows:
+            if heights[stage[0]] < span * len(table.rows[stage]):
+                return False
+            for k in brute.leaving(book, stage):
+                parts = brute.parts(book, stage, k)
+                if len(parts) == 2 and all(part in table.rows for part in parts):
+                    if heights[stage[0]] < span * len(table.rows[parts[1]]) - gain + heights[parts[0][0]]:
+                        return False
+        return True
+
+    def test_changed_numbers(self):
+        rng = random.Random(8)
+        seen = set()
+        for table in tables.clear_tables(55, 200):
+            found = slope(table)
+            if found is None:
+                continue
+            for _ in range(12):
+                heights = {name: found.heights[name] + rng.choice([-1, 0, 0, 0, 1]) for name in found.heights}
+                right = self.right_slope(table, found.gain, found.span, heights)
+                seen.add(right)
+                self.assertIs(check_slope(table, found.gain, found.span, heights, found.lap, found.base), right)
+            twice = {name: 2 * found.heights[name] for name in found.heights}
+            self.assertIs(check_slope(table, 2 * found.gain, 2 * found.span, twice, found.lap, found.base), False)
+        self.assertEqual(seen, {True, False})
+
     def test_random_books(self):
         rings = 0
         for table in tables.clear_tables(53, 200):

@@ -107,6 +107,20 @@ class KnownTest(unittest.TestCase):
         for owes in ((), ("b",)):
             self.assertIs(check_knowing(NESTED, blind, Known(owes, {("main", 0): len(owes), ("main", 1): 0})), False)
 
+    def test_links_alone(self):
+        # At the frame of x nothing more can be seen; only its links tell its place.
+        table = table_of("m: a (x) b\nx: e (y) f\ny: g h")
+        piles = piles_of(table.book, ("a", "e", "g"), ("a", "e", "g"))
+        right = known(table, piles)
+        self.assertIsInstance(right, Unknown)
+        piles = piles_of(table.book, ("a", "b", "e", "f", "g", "h"), ("a", "e", "g"))
+        right = known(table, piles)
+        self.assertEqual((right.owes, right.places), (("h", "f", "b"), {("m", 0): 3, ("x", 1): 2, ("y", 2): 1}))
+        for number in (0, 1, 3):
+            wrong = Known(right.owes, {**right.places, ("x", 1): number})
+            self.assertIs(check_knowing(table, piles, wrong), False)
+        self.assertIs(check_knowing(table, piles, Known(("h", "b", "f"), right.places)), False)
+
     def test_any_moments(self):
         piles = piles_of(ORDER, ("take", "send"), ("take",))
         right = known(TABLE, piles)

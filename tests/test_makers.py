@@ -229,6 +229,25 @@ class PaperTest(unittest.TestCase):
         self.assertFalse(check_lists(book, view, {}, {}))
         self.assertTrue(check_lists(one_course(1, ()), {}, {}, {}))
 
+    def test_rows_that_are_not_lean_or_missing(self):
+        book = one_course(3, (1,), do(0, "a", 1), do(0, "b", 0))
+        view = plain(book)
+        table = lists(book, view)
+        made = makers(book, view, table)
+        self.assertTrue(check_lists(book, view, table, made))
+        first = ("main", 0)
+        more = {**made, first: made[first] + ((3, ("do", 1, 0)),)}
+        self.assertFalse(check_lists(book, view, {**table, first: (("a",), ("b", "a"))}, more))
+        self.assertFalse(check_lists(book, view, {**table, ("main", 2): ()}, {**made, ("main", 2): ()}))
+        for row in (("q",), ("a",)):
+            self.assertFalse(check_lists(book, view, {**table, ("main", 1): (row,)}, made))
+        # Numbers below 1 would let two calls prove one another.
+        ring = one_course(2, (), call(0, "main", 1), call(1, "main", 1))
+        empty = {first: ((),), ("main", 1): ((),)}
+        for number in (-1, 0, 1):
+            wrong = {first: ((number, ("call", 0, 0, 0)),), ("main", 1): ((number, ("call", 1, 0, 0)),)}
+            self.assertFalse(check_lists(ring, {}, empty, wrong))
+
     def test_rings_prove_nothing(self):
         book = one_course(2, (1,), do(0, "h", 0), do(0, "a", 1))
         view = {"h": (), "a": ("a",)}

@@ -94,6 +94,7 @@ class DoneTest(unittest.TestCase):
         self.assertEqual(wrong_at(ORDER, start, ()), 0)
         self.assertEqual(next_deeds(ORDER, start, ("take", "card")), ("send", "stamp"))
         self.assertEqual(next_deeds(ORDER, start, ("card",)), ())
+        self.assertEqual(next_deeds(ORDER, start, ("take",)), ("card",))
         self.assertEqual(next_deeds(ORDER, start, ("take", "card", "send")), ())
         self.assertEqual(run_by(ORDER, (("pay", 0), ("order", 2)), ("card", "send")),
                          (("do", 0), ("leave",), ("do", 2), ("leave",)))
@@ -154,18 +155,28 @@ class DoneTest(unittest.TestCase):
 
     def test_fewest_moves(self):
         for book in brute.mixed_books(73, 160, deeds=2):
-            start = ((book.main(), 0),)
-            if start[0] not in brute.useful(book):
-                continue
-            found = brute.runs(book, start, 7, True)
-            if found is None:
-                continue
-            least = {}
-            for run, moment, deeds in found:
-                if moment == ():
-                    least[deeds] = min(least.get(deeds, 99), len(run))
-            for row, many in least.items():
-                self.assertEqual(len(run_by(book, start, row)), many)
+            for start in list(brute.reachable(book, 3, 12)):
+                found = brute.runs(book, start, 6, True)
+                if found is None:
+                    continue
+                least = {}
+                for run, moment, deeds in found:
+                    if moment == ():
+                        least[deeds] = min(least.get(deeds, 99), len(run))
+                for row, many in least.items():
+                    self.assertEqual(len(run_by(book, start, row)), many)
+
+    def test_fewest_moves_of_all_stages_together(self):
+        # Here the a can be done in x by few moves, or in m behind it by many; the sum of both counts.
+        book = Book((course("m", 6, (5,), call(0, "x", 1), call(1, "q", 2), call(2, "q", 3), do(3, "a", 5), do(1, "b", 4),
+                            call(4, "q", 5), call(1, "q", 5)),
+                     course("x", 3, (2,), do(0, "a", 2), call(0, "q", 2), call(0, "q", 1), call(1, "q", 2)),
+                     course("q", 1, (0,))))
+        for moment in ((("m", 0),), (("x", 0), ("m", 1)), (("x", 1), ("m", 1))):
+            found = brute.runs(book, moment, 11, True)
+            for row in ((), ("a",), ("b",), ("a", "a"), ("a", "b")):
+                many = [len(run) for run, after, deeds in found if after == () and deeds == row]
+                self.assertEqual(len(run_by(book, moment, row) or ()), min(many, default=0), (moment, row))
 
     def test_rows_of_24_and_25_deeds(self):
         book = one_course(2, (1,), do(0, "a", 0), do(0, "b", 1))

@@ -146,6 +146,16 @@ class SureTest(unittest.TestCase):
         self.assertIs(check_sure(over, piles, Sure((("a",),), (lowest(piles),), ({("main", 0): 0},))), False)
         self.assertTrue(check_sure(over, piles, sure(over, piles)))
 
+    def test_links_alone(self):
+        # At the frame of x nothing more can be seen; only its links tell what is held there.
+        table = table_of("m: a (x) b\nx: e (y) f\ny: g h")
+        piles = piles_of(table.book, ("a", "b", "e", "f", "g", "h"), ("a", "e", "g"))
+        found = sure(table, piles)
+        self.assertEqual((found.rows, found.holdings), ((("h", "f", "b"),), ({("m", 0): 0, ("x", 1): 1, ("y", 2): 2},)))
+        for number in (0, 2, 3):
+            wrong = ({**found.holdings[0], ("x", 1): number},)
+            self.assertIs(check_sure(table, piles, Sure(found.rows, found.witnesses, wrong)), False)
+
     def test_12_and_13_owed_deeds(self):
         for many in (12, 13):
             table = table_of("main: z " + "a b " * (many // 2) + "c " * (many % 2))

@@ -145,6 +145,10 @@ class TailTest(unittest.TestCase):
                         tail_pair(FAR, most, value)
                     self.assertEqual(caught.exception.word, "k")
 
+        for value in ODD_VALUES:
+            if isinstance(value, bool) or not isinstance(value, int) or value < 0:
+                self.assertIs(check_tail_pair(FAR, value, (("do", 0),), ()), False)
+
     def test_most(self):
         table = table_of("order: take (pay) send\npay: card [stamp]")
         many = len(all_moments(table.book, 60))
