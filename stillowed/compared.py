@@ -102,4 +102,4 @@ def check_compared(one, other, value):
     if not isinstance(value, Parted) or not comparison.shared.has(value.pile):
         return False
     rows = (one.owed(value.pile), other.owed(value.pile))
-    return rows[0] != rows[1] and isinstance(value.one, tuple) and (value.one, value.other) == rows
+    return rows[0] != rows[1] and (value.one, value.other) == rows

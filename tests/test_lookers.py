@@ -190,6 +190,12 @@ class TrackingTest(unittest.TestCase):
         found = tracking(line, ("a", "c"))
         self.assertEqual((found.one, found.other), (("m", 1), None))
 
+    def test_courses_named_like_deeds(self):
+        # The call of the course a adds to what is owed; that the deed a is seen does not matter.
+        table = table_of("m: b | (a) c b\na: d")
+        found = tracking(table, ("a", "b", "c", "d"))
+        self.assertEqual((found.one, found.other), (("m", 1), None))
+
     def test_the_first_step_that_breaks_the_rule(self):
         # The first a leads on to what owes c d, the second one to what owes d.
         table = table_of("m: d | a c d | a d")
