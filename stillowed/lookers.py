@@ -107,11 +107,12 @@ def inner_ways(graph):
     queue = list(found)
     at = 0
     while at < len(queue):
-        for frame, stage in before.get(queue[at], ()):
-            if frame not in found:
-                found[frame] = found[queue[at]] + (stage,)
-                queue.append(frame)
+        inner = queue[at]
         at += 1
+        for frame, stage in before.get(inner, ()):
+            if frame not in found:
+                found[frame] = found[inner] + (stage,)
+                queue.append(frame)
     return found
 
 

@@ -167,7 +167,7 @@ class LoadsTest(unittest.TestCase):
                 for value in (True, "a", 1.0, (), ("main", 0)):
                     self.assertIs(check_loads(table, movers, {**right, stage: value}), False)
                 self.assertIs(check_loads(table, movers, {s: n for s, n in right.items() if s != stage}), False)
-                other = {s if s != stage else ("zz", 0): n for s, n in right.items()}
+                other = {s if s != stage else ("nope", 0): n for s, n in right.items()}
                 self.assertIs(check_loads(table, movers, other), False)
             self.assertIs(check_loads(table, movers, {**right, "more": 0}), False)
         for value in ODD_VALUES:

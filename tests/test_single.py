@@ -43,6 +43,7 @@ class ProgressTest(unittest.TestCase):
 
     def test_against_endings(self):
         rng = random.Random(1)
+        longer = 0
         for book in brute.mixed_books(3, 160):
             view = brute.random_view(rng, book, 2) if rng.random() < 0.6 else plain(book)
             found = brute.endings(book, SIZE, view)
@@ -50,11 +51,25 @@ class ProgressTest(unittest.TestCase):
             answer = progress(book, view, row)
             self.assertEqual(list(answer), sorted(brute.useful(book)))
             for stage in answer:
-                if found[stage]:
-                    self.assertEqual(answer[stage], tuple(min(fitted(row, place, one) for one in found[stage])
-                                                          for place in range(len(row) + 1)))
-                    self.assertEqual(lies_in_all(book, view, stage, row),
-                                     all(brute.quick_within(row, one) for one in found[stage]))
+                self.assertEqual(lies_in_all(book, view, stage, row), answer[stage][0] == len(row))
+                for place in range(len(row) + 1):
+                    right = min([fitted(row, place, one) for one in found[stage]], default=len(row))
+                    told = answer[stage][place]
+                    self.assertEqual(told, self.by_steps(book, view, row, answer, stage, place))
+                    self.assertLessEqual(told, right)
+                    # Only an ending that is longer than those that were tried leads to a lesser place.
+                    longer += told < right
+        self.assertLess(longer, 10)
+
+    def by_steps(self, book, view, row, answer, stage, place):
+        """The least place to which an end or a step of the stage leads by what is told of the parts."""
+        places = [place] if brute.is_end(book, stage) else []
+        for k in brute.leaving(book, stage):
+            parts = brute.parts(book, stage, k)
+            if all(part in answer for part in parts):
+                onto = fitted(row, place, view[book.steps(stage[0])[k][2]]) if len(parts) == 1 else answer[parts[0]][place]
+                places.append(answer[parts[-1]][onto])
+        return min(places)
 
     def test_counters_against_endings(self):
         rng = random.Random(2)
