@@ -76,9 +76,9 @@ def base_cost(step, weights):
 
 
 def step_of_way(book, stage, way):
-    """The step of a way ("step", k) of a stage, None if this step does not leave it."""
+    """The step of a way ("step", k) of a stage, for any integer k, None if this step does not leave it."""
     steps = book.steps(stage[0])
-    if way[1] >= len(steps) or steps[way[1]][0] != stage[1]:
+    if not 0 <= way[1] < len(steps) or steps[way[1]][0] != stage[1]:
         return None
     return steps[way[1]]
 

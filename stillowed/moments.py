@@ -1,7 +1,7 @@
 """Moments of a book and the runs between them."""
 
 from stillowed.errors import InvalidMoment, InvalidMove, Refused
-from stillowed.moving import fault_of, innermost, let_moves, moment_behind, stages_put
+from stillowed.moving import fault_of, innermost, let_moves, moment_behind, stages_before
 from stillowed.steps import steps_out
 from stillowed.useful import ranks_from_start
 from stillowed.walks import finish_moves, rank_ways, walk_moves, walk_steps, walks_of
@@ -170,16 +170,14 @@ def check_tuple(run):
 
 def deeds_of(book, run):
     """The row of the deeds of any value that is a run."""
-    useful = ranks_from_start(book)
+    stages = stages_along(book, ranks_from_start(book), run)
+    return tuple([book.steps(stage[0])[move[1]][2] for stage, move in zip(stages, run) if move[0] == "do"])
+
+
+def stages_along(book, useful, run):
+    """The innermost stage before each move of any value that is a run."""
     check_tuple(run)
-    opened = [(book.main(), 0)]
-    row = []
-    for at, move in enumerate(run):
-        stage = opened[-1] if opened else None
-        if fault_of(book, useful, stage, move) is not None:
-            raise InvalidMove(at)
-        opened.pop()
-        opened.extend(stages_put(book, stage, move)[::-1])
-        if move[0] == "do":
-            row.append(book.steps(stage[0])[move[1]][2])
-    return tuple(row)
+    stages = stages_before(book, useful, run)
+    if len(stages) < len(run):
+        raise InvalidMove(len(stages))
+    return stages

@@ -56,3 +56,17 @@ def stages_put(book, stage, move):
 def moment_behind(book, moment, move):
     """The moment behind a move that is let."""
     return stages_put(book, moment[0], move) + moment[1:]
+
+
+def stages_before(book, useful, run):
+    """The innermost stage before each move of a tuple or list, up to the first value in it that is no let move."""
+    opened = [(book.main(), 0)]
+    found = []
+    for move in run:
+        stage = opened[-1] if opened else None
+        if fault_of(book, useful, stage, move) is not None:
+            return found
+        found.append(stage)
+        opened.pop()
+        opened.extend(stages_put(book, stage, move)[::-1])
+    return found

@@ -1,6 +1,7 @@
 """The owed rows: tables of them, and two endings where there is none."""
 
-from stillowed.errors import NoEnding
+from stillowed.costs import sound_order
+from stillowed.errors import NoEnding, Refused
 from stillowed.kinds import ascending, copied
 from stillowed.lengths import chosen_rows, lengths, ways
 from stillowed.met import met
@@ -8,6 +9,9 @@ from stillowed.rows import within
 from stillowed.steps import all_in, parts_of, steps_out
 from stillowed.trails import trail_to
 from stillowed.useful import ranks_from_start
+from stillowed.walks import finish_moves
+
+MOST_MOVES = 20000
 
 
 class OwedTable:
@@ -103,3 +107,42 @@ def rank_along(book, way, stage, found):
     if not all_in(parts, found):
         return None
     return 1 + max([found[part] for part in parts])
+
+
+def tight(book, table):
+    """The ascending pairs (course, k) of the steps between keys whose joined row is the row that they leave."""
+    return tuple(sorted([(stage[0], k) for stage, k, _ in tight_steps(book, table)]))
+
+
+def tight_steps(book, table):
+    """The tight steps of a table as triples (stage that it leaves, k, parts)."""
+    found = []
+    for stage in table.rows:
+        for k, parts in steps_out(book, stage):
+            if all_in(parts, table.rows) and joined_row(book, table.view, table.rows, stage, k) == table.rows[stage]:
+                found.append((stage, k, parts))
+    return found
+
+
+def tight_run(book, table, moment):
+    """The moves along the ways of a sound table from a moment to the end."""
+    for stage in moment:
+        if stage not in table.rows:
+            raise NoEnding(stage)
+    many = moves_along(book, table.ways)
+    if sum([many[stage] for stage in moment]) > MOST_MOVES:
+        raise Refused("long")
+    run = []
+    for stage in moment:
+        run.extend(finish_moves(book, table.ways, stage))
+    return tuple(run)
+
+
+def moves_along(book, chosen):
+    """For each key of a sound dict of ways, how many moves leave its course along them."""
+    found = {}
+    for stage in sound_order(book, chosen):
+        way = chosen[stage]
+        parts = () if way == ("end",) else parts_of(stage[0], book.steps(stage[0])[way[1]])
+        found[stage] = 1 + sum([found[part] for part in parts])
+    return found

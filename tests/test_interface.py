@@ -29,7 +29,19 @@ FUNCTIONS = {
     "lists": "row_by(view,row) least_rows(rows) row_products(lots) lists(book,view,*,most=60,longest=40) "
              "lists_to_depth(book,view,depth,*,most=60,longest=40) lists_by(table,view) lists_of(table,moment) "
              "count_of(table,moment)",
-    "owed": "joined_row(book,view,rows,stage,k) looks(book,view,rows) court(book,view)",
+    "owed": "joined_row(book,view,rows,stage,k) looks(book,view,rows) court(book,view) tight(book,table) "
+            "tight_run(book,table,moment)",
+    "owing": "owes(table,row) rows_owed(table,size) count_rows(table,size) all_rows(table) owe_together(tables,numbers)",
+    "prices": "least_prices(book,prices) price_ways(book,prices) counts_along(book,chosen) "
+              "check_prices(book,prices,table,chosen) price_steps(counts,prices,place)",
+    "corners": "corner(counts,at) corners(counts) check_corner(counts,at,value)",
+    "woven": "owing_desks(table) weave(one,other) check_weave(one,other,value)",
+    "changes": "barred(book,bars) new_numbers(book,bars) old_run(book,bars,run) with_steps(book,steps) "
+               "with_ends(book,stages) lost(table,bars) needed(table) spare(table) brings(table,course,step) "
+               "effect(table,course,step) may_put_in(table) may_end(table) greatest(table) change_to(table,book) "
+               "bar_out(table,bars) put_in(table,course,step)",
+    "joined": "behind(one,other,name) either(one,other,name) behind_table(one,other,name) either_table(one,other,name) "
+              "filled(one,deed,other) filled_table(one,deed,other)",
     "trails": "trail_to(book,stage) check_trail(book,stage,trail) trail_moment(book,trail) trail_run(book,trail)",
     "pairs": "holders(one,other) holds(one,other) swapped(book,course) meet(one,other) reached(one,other) "
              "is_shared(one,other,moment)",
@@ -76,6 +88,12 @@ CLASSES = {
     "depths": "Slope(table,gain,span,heights,lap,base)",
     "lookers": "Known(owes,places) Unknown(one,other) Tracked(basis,effects) Untracked(one,other)",
     "owed": "OwedTable(book,view,rows,chosen,ranks) TwoEndings(stage,trail,least,chosen,one,other)",
+    "verdicts": "DealtTable(book,dealing,rows,ways,ranks) DeskSplit(desk,two) "
+                "NeverTogether(stage,trail,tables,desk,one,other)",
+    "corners": "Corner(prices) Mixed(shares)",
+    "woven": "Woven(one,other,owing) Clash(desk,first,second,one,other)",
+    "changes": "Change(book,word,table,two,changed,fresh,gone)",
+    "live": "Live(book)",
 }
 
 METHODS = {
@@ -84,6 +102,10 @@ METHODS = {
     ("debts", "Ring"): "turned(times) times_for(wanted)",
     ("ledger", "Ledger"): "do(move) moment() moves_done() owed() debts() history(number) needless() longest_wait()",
     ("owed", "OwedTable"): "row(stage) owed(moment)",
+    ("verdicts", "DealtTable"): "row(stage) part_at(desk,stage) owed(moment) parts_at(moment)",
+    ("woven", "Woven"): "parts(first,second)",
+    ("live", "Live"): "present() run() changes() do(move) put_course(course) put_step(name,step) bar_step(name,k) "
+                      "put_end(stage) bar_end(stage) undo() moment() verdict() owed() ledger()",
 }
 
 

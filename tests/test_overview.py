@@ -3,10 +3,12 @@
 import unittest
 
 from samples import NEST
+from stillowed.corners import Mixed, check_corner, corners
 from stillowed.lengths import plain
 from stillowed.loads import left_free, loading_steps, loads
 from stillowed.orders import rests, wrong_at
-from stillowed.owed import court
+from stillowed.owed import court, tight_run
+from stillowed.prices import price_steps
 from stillowed.single import owed_at
 from stillowed.texts import book_of, read_courses
 
@@ -25,8 +27,14 @@ class OverviewTest(unittest.TestCase):
         table = court(nest, plain(nest))
         self.assertEqual((table.rows[("main", 1)], table.ways[("main", 0)], table.ranks[("main", 1)]),
                          (("c", "b"), ("step", 1), 2))
+        self.assertEqual(tight_run(nest, table, (("main", 2),)), (("do", 3), ("leave",)))
         torn = book_of(read_courses("main: [(y)] z\ny: a | b"))
         self.assertEqual((court(torn, plain(torn)).stage, owed_at(torn, plain(torn), (("main", 0),))), (("y", 0), ("z",)))
+
+    def test_prices(self):
+        counts = ((0, 4), (3, 3), (4, 0))
+        self.assertEqual((corners(counts), check_corner(counts, 1, Mixed((1, 0, 1)))), ((0, 2), True))
+        self.assertEqual(price_steps(((0, 4), (1, 1), (4, 0)), (0, 6), 0), ((0, 2), (2, 1), (18, 0)))
 
     def test_loads(self):
         book = book_of(read_courses("main: (x) a\nx: [h b]"))
