@@ -30,6 +30,14 @@ def row_lengths(book, view):
 
 def rows_along(book, view, chosen):
     """A dict from the keys of a sound dict of ways to the rows that the ways make."""
+    rows = rows_if_short(book, view, chosen)
+    if rows is None:
+        raise Refused("long")
+    return rows
+
+
+def rows_if_short(book, view, chosen):
+    """What `rows_along` returns, None if it refuses these ways."""
     weights = row_lengths(book, view)
     order = sound_order(book, chosen)
     # The lengths come first: rows along ways may be too long to be made at all.
@@ -37,7 +45,7 @@ def rows_along(book, view, chosen):
     for stage in order:
         sizes[stage] = weight_along(book, weights, sizes, stage, chosen[stage])
     if sum([sizes[stage] for stage in sizes]) > MOST_DEEDS_TOGETHER:
-        raise Refused("long")
+        return None
     rows = {}
     for stage in order:
         rows[stage] = row_along(book, view, rows, stage, chosen[stage])

@@ -1,7 +1,8 @@
 """Certificates of owed rows, checked."""
 
 from stillowed.costs import parts_of_way
-from stillowed.lengths import check_lengths, row_along, rows_along
+from stillowed.errors import Refused
+from stillowed.lengths import check_lengths, row_along, rows_if_short
 from stillowed.owed import joined_row, looks
 from stillowed.rows import within
 from stillowed.steps import all_in, steps_out
@@ -45,11 +46,21 @@ def are_made(book, view, rows, chosen, numbers):
 
 def check_two(book, view, two):
     """Whether a TwoEndings, with any value as its trail, is sound for a book and a view."""
+    found = two_if_short(book, view, two)
+    if found is None:
+        raise Refused("long")
+    return found
+
+
+def two_if_short(book, view, two):
+    """What `check_two` returns, None if it refuses these two endings."""
     if not check_lengths(book, view, two.lengths, two.ways) or two.stage not in two.lengths:
         return False
     if not check_trail(book, two.stage, two.trail):
         return False
-    rows = rows_along(book, view, two.ways)
+    rows = rows_if_short(book, view, two.ways)
+    if rows is None:
+        return None
     if two.one != rows[two.stage] or within(two.one, two.other):
         return False
     steps = [k for k, parts in steps_out(book, two.stage) if all_in(parts, rows)]

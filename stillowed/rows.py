@@ -21,6 +21,14 @@ def in_order(rows):
     return tuple(sorted({row: True for row in rows}, key=row_order))
 
 
+def all_lots(names):
+    """All lots of some ascending names, in order."""
+    found = [()]
+    for name in names:
+        found.extend([lot + (name,) for lot in found])
+    return in_order(found)
+
+
 def greatest_rows(rows):
     """The rows that lie within no other one, unlike them, in order."""
     kept = []

@@ -40,6 +40,17 @@ FUNCTIONS = {
                "with_ends(book,stages) lost(table,bars) needed(table) spare(table) brings(table,course,step) "
                "effect(table,course,step) may_put_in(table) may_end(table) greatest(table) change_to(table,book) "
                "bar_out(table,bars) put_in(table,course,step)",
+    "notes": "note_plan(table,moments) check_plan(book,moments,rows,marks) old_note(row,deeds) old_book(row,deeds)",
+    "papers": "check_table(table) check_two(book,view,two)",
+    "resting": "stretches(table,run) free_run(table,movers,moment,goal) loaders(table,dealing,moment,gain) late_note(table)",
+    "bars": "all_least_bars(book,view,prices,*,most=14) least_bars(book,view,prices,*,most=14) check_no_cheaper(paper)",
+    "blurs": "blur_view(blur) all_blurs(deeds) coarser(one,other) just_finer(blur) finest_blurs(book) "
+             "finest_paper(book,blur) check_finest(book,blur,table,tears)",
+    "desks": "judge(book,dealing) is_clear_by(book,dealing) looks_by(book,dealing,rows) check_verdict(book,dealing,value)",
+    "coarse": "clear_blocks(book) is_block(blocks,lot) check_blocks(book,value) coarsest(book)",
+    "weaves": "is_weave(table,moment,row) weaves(table) starters(table) outside(table) run_of_weave(free,moment,row) "
+              "check_weaves(table,value)",
+    "checker": "words() check(claim) gather(book,view) concluded(book,view,claims)",
     "joined": "behind(one,other,name) either(one,other,name) behind_table(one,other,name) either_table(one,other,name) "
               "filled(one,deed,other) filled_table(one,deed,other)",
     "trails": "trail_to(book,stage) check_trail(book,stage,trail) trail_moment(book,trail) trail_run(book,trail)",
@@ -94,6 +105,9 @@ CLASSES = {
     "woven": "Woven(one,other,owing) Clash(desk,first,second,one,other)",
     "changes": "Change(book,word,table,two,changed,fresh,gone)",
     "live": "Live(book)",
+    "bars": "Fault(place,first,second,numbers) NoCheaper(book,view,prices,most,cost,nodes) Mended(bars,cost,table,paper)",
+    "coarse": "Blocks(faces,walls)",
+    "weaves": "Free(table,starts,outer) NotFree(trail,pile,weave)",
 }
 
 METHODS = {

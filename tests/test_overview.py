@@ -1,16 +1,21 @@
-"""The examples of the document, as far as what they use has landed."""
+"""The examples of the document, as they are written."""
 
 import unittest
 
 from samples import NEST
+from stillowed.blurs import finest_blurs
 from stillowed.corners import Mixed, check_corner, corners
 from stillowed.lengths import plain
 from stillowed.loads import left_free, loading_steps, loads
+from stillowed.met import run_to
+from stillowed.notes import old_note
 from stillowed.orders import rests, wrong_at
-from stillowed.owed import court, tight_run
+from stillowed.owed import OwedTable, TwoEndings, court, tight_run
 from stillowed.prices import price_steps
+from stillowed.resting import late_note
 from stillowed.single import owed_at
 from stillowed.texts import book_of, read_courses
+from stillowed.useful import ranks
 
 
 class OverviewTest(unittest.TestCase):
@@ -20,6 +25,24 @@ class OverviewTest(unittest.TestCase):
         torn = court(book_of(read_courses("main: card | cash stamp")),
                      {"card": ("card",), "cash": ("cash",), "stamp": ("stamp",)})
         self.assertEqual((torn.one, torn.other), (("card",), ("cash", "stamp")))
+
+    def test_texts(self):
+        self.assertEqual(book_of(read_courses("pay: card|<card> stamp")).courses, (
+            ("pay", 4, (1, 3), ((0, "do", "card", 1), (0, "do", "card", 2), (2, "do", "stamp", 3))),))
+
+    def test_stages(self):
+        book = book_of(read_courses("order: take (pay) send\npay: card | card stamp"))
+        self.assertEqual(ranks(book)[("order", 0)], 6)
+        self.assertEqual(run_to(book, ("order", 2)), (("do", 0), ("call", 1), ("do", 0), ("leave",)))
+
+    def test_views_of_clear_books(self):
+        book = book_of(read_courses("main: a b | b a"))
+        self.assertIsInstance(court(book, plain(book)), TwoEndings)
+        self.assertIsInstance(court(book, {"a": ("x",), "b": ("x",)}), OwedTable)
+
+    def test_blurs(self):
+        self.assertEqual(finest_blurs(book_of(read_courses("main: a b | b a"))), (
+            (("a", ""), ("b", "b")), (("a", "a"), ("b", "")), (("a", "a"), ("b", "a"))))
 
     def test_owed_rows(self):
         nest = book_of(read_courses("main: a (main) b | c"))
@@ -42,12 +65,14 @@ class OverviewTest(unittest.TestCase):
         self.assertEqual(loading_steps(table), (("x", 0),))
         self.assertEqual(left_free(table, ("h",)), (("main", 2), ("x", 0), ("x", 2)))
         self.assertEqual(loads(table, ("h",))[("main", 0)], 2)
+        self.assertEqual(late_note(table), ((("x", 0), ("main", 1)), ("do", 0)))
 
     def test_orders(self):
         book = book_of(read_courses("main: d | a b d | a c d"))
         table = court(book, plain(book))
         self.assertEqual(rests(table, (("main", 0),), ("a",)), (("b", "d"), ("c", "d")))
-        self.assertEqual(wrong_at(table.book, (("main", 0),), ("a", "b", "b")), 2)
+        self.assertEqual((old_note(("a", "b", "a"), ("b", "a", "a")), wrong_at(table.book, (("main", 0),), ("a", "b", "b"))),
+                         (("b", "a"), 2))
 
 
 if __name__ == "__main__":
