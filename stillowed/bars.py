@@ -113,11 +113,11 @@ class PaperCheck:
         self.useful = ranks(self.book)
         self.known = {}
         # For each step (its name, the stage that it leaves, its parts, how many deeds are shown).
-        self.steps = []
+        self.listed = []
         for course in self.book.names():
             for k, step in enumerate(self.book.steps(course)):
                 shown = len(paper.view[step[2]]) if step[1] == "do" else 0
-                self.steps.append(((course, k), (course, step[0]), parts_of(course, step), shown))
+                self.listed.append(((course, k), (course, step[0]), parts_of(course, step), shown))
 
     def is_dear(self, bars):
         """Whether a lot is as dear as the cost, or greater than may be."""
@@ -133,7 +133,7 @@ class PaperCheck:
         """Whether no course may end in a lot, and no step that is left leads out of it."""
         if any([self.book.is_end(stage) for stage in lot]):
             return False
-        for name, stage, parts, _ in self.steps:
+        for name, stage, parts, _ in self.listed:
             if stage in lot and name not in bars and not any([part in lot for part in parts]):
                 return False
         return True
@@ -163,7 +163,7 @@ class PaperCheck:
             return False
         if any([self.book.is_end(stage) and numbers[stage] > 0 for stage in numbers]):
             return False
-        for name, stage, parts, shown in self.steps:
+        for name, stage, parts, shown in self.listed:
             if stage in numbers and name not in bars and all_in(parts, numbers):
                 if numbers[stage] > shown + sum([numbers[part] for part in parts]):
                     return False

@@ -45,7 +45,7 @@ class FaultFinder:
         self.start = (book.main(), 0)
         self.names = sorted(prices)
         bits = {name: 1 << at for at, name in enumerate(self.names)}
-        self.steps = []
+        self.listed = []
         self.into = {stage: [] for stage in book.stages()}
         for course in book.names():
             for k, step in enumerate(book.steps(course)):
@@ -53,8 +53,8 @@ class FaultFinder:
                 parts = parts_of(course, step)
                 made = Step((course, k), step[1], (course, step[0]), parts, row, bits.get((course, k), 0))
                 for part in {stage: True for stage in parts}:
-                    self.into[part].append(len(self.steps))
-                self.steps.append(made)
+                    self.into[part].append(len(self.listed))
+                self.listed.append(made)
 
     def fault(self, bars, kept):
         """A FoundFault of the book without some steps that has few others with a price that are not kept.
@@ -68,18 +68,18 @@ class FaultFinder:
         found = []
         for stage in ways.arrivals:
             for number in self.leaving(bars, stage):
-                step = self.steps[number]
+                step = self.listed[number]
                 if all_in(step.parts, short) and not within(ways.rows[stage], ways.brought(step)):
                     bits = ways.bits_of(stage, step)
                     found.append((bit_count(bits & ~kept), number, bits))
         if not found:
             return None
         _, number, bits = min(found)
-        return ways.fault(self.steps[number], bits)
+        return ways.fault(self.listed[number], bits)
 
     def leaving(self, bars, stage):
         """The numbers of the steps that leave a stage and are not barred."""
-        return [number for number, step in enumerate(self.steps) if step.stage == stage and not step.bit & bars]
+        return [number for number, step in enumerate(self.listed) if step.stage == stage and not step.bit & bars]
 
     def settled(self, bars, quiet):
         """For each useful stage (least cost, number of the first step of a way that has it), in the order of costs."""
@@ -94,7 +94,7 @@ class FaultFinder:
                 continue
             found[stage] = (cost, number)
             for user in self.into[stage]:
-                step = self.steps[user]
+                step = self.listed[user]
                 if step.stage not in found and not step.bit & bars and all_in(step.parts, found):
                     base = step.quiet_cost if quiet else step.short_cost
                     heappush(queue, (base + sum([found[part][0] for part in step.parts]), step.stage, user))
@@ -113,7 +113,7 @@ class Ways:
         self.short_bits = self.bits_along(short)
         self.quiet_bits = self.bits_along(quiet)
         for stage in short:
-            self.rows[stage] = () if short[stage][1] == AT_END else self.brought(finder.steps[short[stage][1]])
+            self.rows[stage] = () if short[stage][1] == AT_END else self.brought(finder.listed[short[stage][1]])
         # For each met stage the bits of the moves to it and from the rests to the end, and the arrival: (stage before,
         # step, rests put down).
         self.arrivals = self.arrivals_of()
@@ -131,7 +131,7 @@ class Ways:
         for stage in table:
             bits[stage] = 0
             if table[stage][1] != AT_END:
-                step = self.finder.steps[table[stage][1]]
+                step = self.finder.listed[table[stage][1]]
                 bits[stage] = step.bit
                 for part in step.parts:
                     bits[stage] |= bits[part]
@@ -147,7 +147,7 @@ class Ways:
                 continue
             found[stage] = (bits, arrival)
             for number in self.finder.leaving(self.bars, stage):
-                step = self.finder.steps[number]
+                step = self.finder.listed[number]
                 if not all_in(step.parts, self.short):
                     continue
                 first = step.parts[0]
@@ -172,7 +172,7 @@ class Ways:
         moves = []
         rests = []
         for passed, number, put in self.legs_to(step.stage):
-            moves.append(self.finder.steps[number].move)
+            moves.append(self.finder.listed[number].move)
             if passed is not None:
                 moves.extend(self.finish(self.quiet, passed))
             rests = list(put) + rests
@@ -187,7 +187,7 @@ class Ways:
         legs = []
         while self.arrivals[stage][1]:
             before, number, rests = self.arrivals[stage][1]
-            parts = self.finder.steps[number].parts
+            parts = self.finder.listed[number].parts
             legs.append((parts[0] if len(parts) == 2 and not rests else None, number, rests))
             stage = before
         return list(reversed(legs))
@@ -201,7 +201,7 @@ class Ways:
             if number == AT_END:
                 moves.append(("leave",))
             else:
-                step = self.finder.steps[number]
+                step = self.finder.listed[number]
                 moves.append(step.move)
                 opened.extend(step.parts[::-1])
         return moves

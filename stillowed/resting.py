@@ -76,11 +76,11 @@ class Goal:
     def __init__(self, free, moment):
         self.free = free
         self.moment = moment
-        self.walks = [free.walks((stage[0], 0)) for stage in moment]
+        self.first_walks = [free.walks((stage[0], 0)) for stage in moment]
         # The fewest moves by which the first stages are built up, from the first stage of the last one's course.
         self.costs = []
         for many in range(1, len(moment) + 1):
-            self.costs.append(self.cost_from(self.walks[many - 1], many))
+            self.costs.append(self.cost_from(self.first_walks[many - 1], many))
 
     def ends_of_leg(self, many):
         """The pairs (number of a stage, entered call or None) at which the leg that builds so many stages can end."""
@@ -114,7 +114,7 @@ class Goal:
             run.extend(walk_moves(book, self.free.ways, course, walk_steps(book, walks, course, number)))
             if k is not None:
                 run.append(("call", k))
-                walks = self.walks[at - 1]
+                walks = self.first_walks[at - 1]
         return run
 
 
@@ -208,23 +208,32 @@ def late_rests(table, stage, after):
     if after[:len(row)] != row:
         return base_of(table, opened, stage[0])
     deeds = repeated(after[len(row):])
+    callers = callers_of(opened)
     queue = [(stage[0], 0, ())] if deeds else []
     seen = {}
     at = 0
     while at < len(queue):
         course, place, rests = queue[at]
         at += 1
-        for calling in opened:
-            for rest in [rest for called, rest in opened[calling] if called == course]:
-                owed_row = table.rows[rest]
-                further = (rest,) + rests
-                if not is_repeating(deeds, place, owed_row):
-                    return tuple(reversed(further)) + base_of(table, opened, calling)
-                onto = (place + len(owed_row)) % len(deeds)
-                if (calling, onto) not in seen:
-                    seen[(calling, onto)] = True
-                    queue.append((calling, onto, further))
+        for calling, rest in callers[course]:
+            owed_row = table.rows[rest]
+            further = (rest,) + rests
+            if not is_repeating(deeds, place, owed_row):
+                return tuple(reversed(further)) + base_of(table, opened, calling)
+            onto = (place + len(owed_row)) % len(deeds)
+            if (calling, onto) not in seen:
+                seen[(calling, onto)] = True
+                queue.append((calling, onto, further))
     return None
+
+
+def callers_of(opened):
+    """For each course the pairs (calling course, rest) of the sites that open it, out of those by calling courses."""
+    found = {course: [] for course in opened}
+    for calling in opened:
+        for course, rest in opened[calling]:
+            found[course].append((calling, rest))
+    return found
 
 
 def repeated(row):

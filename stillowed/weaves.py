@@ -102,7 +102,7 @@ def outside(table):
     """A dict from each course with a met stage to the lot of the desks outside it."""
     found = {stage[0]: {} for stage in table.rows}
     sites = sites_of(table)
-    for _ in found:
+    for _ in range(len(found)):
         for stage, _, course, rest in sites:
             for desk in owed_desks(table, rest) + list(found[stage[0]]):
                 found[course][desk] = True
@@ -121,8 +121,12 @@ def weaves(table):
         for desk in outer[stage[0]]:
             if desks and desk not in desks:
                 return not_free(table, trail_below(table, desk, stage), desk)
-    told = {stage: tuple([(desk,) + starts[stage][desk] for desk in owed_desks(table, stage)]) for stage in starts}
-    return Free(table, told, outer)
+    return Free(table, {stage: triples_of(starts[stage]) for stage in starts}, outer)
+
+
+def triples_of(starts):
+    """The ascending triples (desk, step, rank) of a dict from desks to (step, rank)."""
+    return tuple([(desk,) + starts[desk] for desk in sorted(starts)])
 
 
 def not_free(table, trail, desk):
