@@ -98,7 +98,7 @@ def check_no_cheaper(paper):
             below = check.below_fault(bars, kept, why)
             if below is None:
                 return False
-            awaited.extend(reversed(below))
+            awaited.extend(list(reversed(below)))
         elif not (word == "dear" and check.is_dear(bars)) and not (word == "dead" and check.is_dead(bars, why)):
             return False
     return not awaited

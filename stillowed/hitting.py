@@ -100,5 +100,5 @@ class BarSearch:
                 found.append((bars, kept, None))
             else:
                 found.append((bars, kept, self.known[bars]))
-                waiting.extend(reversed(self.children(bars, kept, self.known[bars])))
+                waiting.extend(list(reversed(self.children(bars, kept, self.known[bars]))))
         return found

@@ -19,6 +19,10 @@ BARRED_WORDS = set("""typing typing_extensions enum Enum IntEnum StrEnum Flag In
 namedtuple NamedTuple TypedDict TYPE_CHECKING abstractmethod dataclass overload contextmanager""".split())
 BARRED_ATTRIBUTES = set("""items keys values pop update append clear extend insert remove reverse setdefault sort args
 encode decode hex fromhex format format_map open input register mro elements law""".split())
+# What L23 asks to be iterated on the spot, and the functions that do it to their first argument.
+WALKED = set("zip enumerate reversed range items keys values".split())
+WALKERS = set("list tuple dict sorted sum any all enumerate zip".split())
+KEPT_WALKERS = set("list tuple sorted sum min max any all".split())
 NODES = (ast.Set, ast.SetComp, ast.GeneratorExp, ast.Global, ast.Try, ast.With, ast.Yield, ast.YieldFrom, ast.Div,
          ast.Match, ast.NamedExpr, ast.AsyncFunctionDef, ast.Await, ast.JoinedStr, ast.Nonlocal, ast.Lambda)
 
@@ -44,6 +48,71 @@ def bound_names(function):
         if isinstance(node, ast.FunctionDef) and node is not function:
             names.append(node.name)
     return names
+
+
+def walked(node):
+    """The name of what a call makes that is to be iterated on the spot, "" if it makes no such thing."""
+    if not isinstance(node, ast.Call):
+        return ""
+    if isinstance(node.func, ast.Name):
+        name = node.func.id if node.func.id not in ("items", "keys", "values") else ""
+    else:
+        name = node.func.attr if node.func.attr in ("items", "keys", "values") else ""
+    return name if name in WALKED else ""
+
+
+def around(tree):
+    """From each node to the one around it."""
+    return {inner: outer for outer in ast.walk(tree) for inner in ast.iter_child_nodes(outer)}
+
+
+def is_argument(node, outer, names):
+    """Whether a node is the first argument of a call of one of some functions."""
+    return (isinstance(outer, ast.Call) and isinstance(outer.func, ast.Name) and outer.func.id in names
+            and outer.args[:1] == [node])
+
+
+def is_iterated(node, outer):
+    """Whether a node stands behind the `in` of a `for` or a comprehension."""
+    return isinstance(outer, (ast.For, ast.comprehension)) and outer.iter is node
+
+
+def is_tested(node, outer):
+    """Whether a node stands behind an `in` that tests."""
+    return (isinstance(outer, ast.Compare) and len(outer.ops) == 1 and outer.comparators == [node]
+            and isinstance(outer.ops[0], (ast.In, ast.NotIn)))
+
+
+def is_walked_at_once(node, outers):
+    """Whether what a call makes is iterated on the spot, as L23 lists it."""
+    outer, name = outers[node], walked(node)
+    if isinstance(outer, ast.Call) and isinstance(outer.func, ast.Attribute):
+        return outer.func.attr == "join" and isinstance(outer.func.value, ast.Constant)
+    if is_argument(node, outer, ("enumerate", "zip")) or name == "range" and is_argument(node, outer, ("reversed",)):
+        return is_walked_at_once(outer, outers)
+    return (is_iterated(node, outer) or is_argument(node, outer, WALKERS)
+            or is_argument(node, outer, ("min", "max")) and len(outer.args) == 1
+            and [word.arg for word in outer.keywords] in ([], ["default"])
+            or name in ("range", "items") and is_argument(node, outer, ("len",))
+            or name in ("range", "keys") and is_tested(node, outer))
+
+
+def is_well_kept(node, outers):
+    """Whether what a call makes is kept by a local name that is assigned once, and read as L23 allows."""
+    store = outers[node]
+    if not isinstance(store, ast.Assign) or len(store.targets) != 1 or not isinstance(store.targets[0], ast.Name):
+        return False
+    function = store
+    while not isinstance(function, (ast.FunctionDef, ast.Module)):
+        function = outers[function]
+    same = [n for n in ast.walk(function) if isinstance(n, ast.Name) and n.id == store.targets[0].id]
+    reads = [n for n in same if isinstance(n.ctx, ast.Load)]
+    if isinstance(function, ast.Module) or len(same) != len(reads) + 1:
+        return False
+    good = [n for n in reads if is_iterated(n, outers[n]) or is_argument(n, outers[n], KEPT_WALKERS)]
+    if walked(node) in ("zip", "enumerate", "reversed"):
+        return len(reads) == 1 and good == reads
+    return all(n in good or is_argument(n, outers[n], ("len",)) or is_tested(n, outers[n]) for n in reads)
 
 
 class FormTest(unittest.TestCase):
@@ -180,6 +249,31 @@ class FormTest(unittest.TestCase):
             self.assertTrue(free, "files import from each other")
             for name in free:
                 del follows[name]
+
+    def test_what_walks_is_iterated_at_once(self):
+        for path, tree in trees():
+            outers = around(tree)
+            for node in ast.walk(tree):
+                if walked(node):
+                    self.assertTrue(is_walked_at_once(node, outers) or is_well_kept(node, outers),
+                                    (path.name, node.lineno, ast.unparse(outers[node])))
+
+    def test_the_test_of_what_walks(self):
+        for row, good in (("for k in reversed(xs): pass", True), ("out.extend(reversed(xs))", False),
+                          ("out.extend(list(reversed(xs)))", True), ("out.update(d.items())", False),
+                          ("out += zip(xs, xs)", False), ("return [k for k in enumerate(xs)]", True),
+                          ("return enumerate(xs)", False), ("return len(range(k))", True), ("len(zip(xs))", False),
+                          ("return max(d.values())", True), ("return max(d.values(), 3)", False),
+                          ("return sorted(reversed(range(k)))", True), ("return list(reversed(d.keys()))", False),
+                          ("return reversed(range(k))", False), ("return list(zip(xs, range(k)))", False),
+                          ("p = zip(xs, xs)\n return all([k for k in p])", True), ("p = zip(xs)\n return p", False),
+                          ("p = range(k)\n return len(p) + sum(p)", True), ("p = q = range(k)", False),
+                          ("p = reversed(xs)\n p = list(p)", False), ("a, b = zip(xs, xs)", False),
+                          ("return k in d.keys()", True), ("return k in d.values()", False)):
+            tree = ast.parse("def f(xs, d, k, out):\n " + row)
+            outers = around(tree)
+            found = [is_walked_at_once(n, outers) or is_well_kept(n, outers) for n in ast.walk(tree) if walked(n)]
+            self.assertEqual(all(found), good, row)
 
     def test_attributes_that_are_read_are_assigned(self):
         assigned, read, methods = set(), set(), set()
